@@ -1,0 +1,1 @@
+"""Saidground: letters that speak of things by what was said between two."""

@@ -1,0 +1,59 @@
+"""Letters, their grounds, and what was said in them, by the letters alone."""
+
+from saidground.descriptions import fitting
+from saidground.lots import Lots
+
+
+class Talks:
+    """Letters by (writer, reader, number), and what each description in them means.
+
+    The meaning is found once, as the letter is put in: a meaning found anew
+    in each file that has the letter would ask for all the grounds below it.
+    """
+
+    def __init__(self):
+        self.letters = {}
+        self.meant = {}
+
+    def ground(self, writer, reader, names):
+        """The keys, rising, of the ground's letters of a letter with these names."""
+        yours = [(reader, writer, number) for hand, number in names if hand == reader]
+        mine = [(writer, reader, number) for key in yours for hand, number in self.letters[key][3] if hand == writer]
+        return sorted(set(yours + mine))
+
+    def public_file(self, keys):
+        """The public file of letters that are here, by their keys, rising, with their grounds."""
+        slots = [(*key, k) for key in keys for k in range(len(self.letters[key][4]))]
+        places = {slot: place for place, slot in enumerate(slots)}
+        lots = Lots()
+        for slot in slots:
+            lots.new(self.letters[slot[:3]][4][slot[3]][1])
+        for slot in slots:
+            for other in self.meant.get(slot, ()):
+                lots.unite(places[slot], places[other])
+        return [(tuple([slots[place] for place in lot]), words) for lot, words in lots.listed()]
+
+    def hold(self, letter):
+        """Take in a letter; what its descriptions mean is to be found yet."""
+        self.letters[letter[:3]] = letter
+
+    def find_meanings(self, letter, lots):
+        """Find what the letter's descriptions mean; lots are the public file of its ground.
+
+        Of each lot that fits its first slot is kept alone: the others are one
+        with it in each file that has the ground's letters, and in the files
+        of the letter's writer and its reader.
+        """
+        for k, line in enumerate(letter[4]):
+            if line[0] is not None:
+                meant = [lots[number][0][0] for number in fitting(lots, line[0])]
+                self.meant[letter[:3] + (k,)] = tuple(meant)
+
+    def put(self, letter, lots):
+        """Take in a letter, and find what its descriptions mean."""
+        self.hold(letter)
+        self.find_meanings(letter, lots)
+
+    def meanings(self, letter):
+        """What each of a letter's descriptions means, in their order."""
+        return [self.meant[letter[:3] + (k,)] for k, line in enumerate(letter[4]) if line[0] is not None]

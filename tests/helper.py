@@ -1,0 +1,207 @@
+"""A slow reading of the document, word by word, to ask the program against; and histories by chance.
+
+Nothing here is taken from the program: lots are sets, meanings are found anew
+from the letters, and names by trying all words there are.
+"""
+
+from itertools import combinations
+from random import Random
+
+
+def subsets(words):
+    """All WORDS made of some words, by LESS."""
+    words = sorted(words)
+    return [some for size in range(len(words) + 1) for some in combinations(words, size)]
+
+
+def joined(lots, chosen):
+    """Lots (pairs of sets) where all that touch the chosen ones have become one."""
+    touching = [lot for lot in lots if lot[0] & chosen]
+    rest = [lot for lot in lots if not lot[0] & chosen]
+    return rest + [(set().union(*[lot[0] for lot in touching]), set().union(*[lot[1] for lot in touching]))]
+
+
+def listed(lots):
+    """Lots as the program tells them."""
+    return sorted((tuple(sorted(members)), tuple(sorted(words))) for members, words in lots)
+
+
+def ground_of(told, writer, reader, names):
+    """The ground's letters of a letter with these names, a set of keys."""
+    yours = {(hand, writer, number) for hand, number in names if hand == reader}
+    mine = {(writer, reader, number) for key in yours for hand, number in told[key][3] if hand == writer}
+    return frozenset(yours | mine)
+
+
+def public_file(told, keys, kept):
+    """The public file of these letters, as pairs of sets; kept holds what was found before."""
+    if keys not in kept:
+        lots = [({(*key, k)}, set(line[1])) for key in keys for k, line in enumerate(told[key][4])]
+        for key in keys:
+            writer, reader, _, names, lines = told[key]
+            below = public_file(told, ground_of(told, writer, reader, names), kept)
+            for k, line in enumerate(lines):
+                if line[0] is not None:
+                    meant = [slots for slots, words in below if set(line[0]) <= words]
+                    lots = joined(lots, {(*key, k)}.union(*meant))
+        kept[keys] = lots
+    return kept[keys]
+
+
+class Slow:
+    """A history's deeds, done one after the other as the document's words have it."""
+
+    def __init__(self, hands):
+        self.hands = hands
+        self.deeds = []
+        self.told = {}
+        self.kept = {}
+        self.words = set()
+        self.lots = {hand: [] for hand in hands}
+        self.things = {hand: [] for hand in hands}
+        self.card_for = {hand: {} for hand in hands}
+        self.read = {hand: set() for hand in hands}
+
+    def history(self):
+        return self.hands, tuple(self.deeds)
+
+    def lot(self, hand, card):
+        return next(lot for lot in self.lots[hand] if card in lot[0])
+
+    def new_card(self, hand, thing, words):
+        card = len(self.things[hand])
+        self.things[hand].append(thing)
+        self.lots[hand].append(({card}, set(words)))
+        return card
+
+    def learn(self, hand, card, words):
+        self.lot(hand, card)[1].update(words)
+
+    def ground(self, hand, other):
+        return ground_of(self.told, hand, other, self.read[hand])
+
+    def ground_file(self, hand, other):
+        return public_file(self.told, self.ground(hand, other), self.kept)
+
+    def fit(self, lots, words):
+        return [slots for slots, said in lots if set(words) <= said]
+
+    def is_safe(self, hand, other, card, words):
+        meant = self.fit(self.ground_file(hand, other), words)
+        cards = {self.card_for[hand][slot] for slots in meant for slot in slots}
+        return bool(meant) and cards <= self.lot(hand, card)[0]
+
+    def name(self, hand, other, card):
+        return next((words for words in subsets(self.words) if self.is_safe(hand, other, card, words)), None)
+
+    def can(self, deed):
+        kind, hand, what, last = deed
+        many = len(self.things[hand])
+        if kind == "look":
+            return what < many
+        if kind == "one":
+            return what < many and last < many and self.things[hand][what] == self.things[hand][last]
+        if kind == "write":
+            if not all(card < many and set(words) <= self.lot(hand, card)[1] for card, words in last):
+                return False
+            return all(other not in self.lot(hand, card)[0] for (card, _), (other, _) in combinations(last, 2))
+        return kind == "see" or (what, hand, last) in self.told
+
+    def do(self, deed):
+        kind, hand, what, last = deed
+        if kind in ("see", "look"):
+            self.words.update(last)
+        if kind == "see":
+            self.new_card(hand, what, last)
+        elif kind == "look":
+            self.learn(hand, what, last)
+        elif kind == "one":
+            self.lots[hand] = joined(self.lots[hand], {what, last})
+        elif kind == "write":
+            self.do_write(hand, what, last)
+        elif (what, last) not in self.read[hand]:
+            self.do_read(hand, what, last)
+        self.deeds.append(deed)
+
+    def do_write(self, hand, other, lines):
+        number = 1 + len([key for key in self.told if key[:2] == (hand, other)])
+        names = tuple(sorted(self.read[hand]))
+        said = tuple((self.name(hand, other, card), words) for card, words in lines)
+        self.told[(hand, other, number)] = (hand, other, number, names, said)
+        for k, (card, _) in enumerate(lines):
+            self.card_for[hand][(hand, other, number, k)] = card
+
+    def do_read(self, hand, writer, number):
+        _, _, _, names, lines = self.told[(writer, hand, number)]
+        lots = public_file(self.told, ground_of(self.told, writer, hand, names), self.kept)
+        for k, (name, words) in enumerate(lines):
+            slot = (writer, hand, number, k)
+            if name is None:
+                thing = self.things[writer][self.card_for[writer][slot]]
+                self.card_for[hand][slot] = self.new_card(hand, thing, words)
+            else:
+                meant = sorted(slot for slots in self.fit(lots, name) for slot in slots)
+                cards = {self.card_for[hand][slot] for slot in meant}
+                self.lots[hand] = joined(self.lots[hand], cards)
+                self.card_for[hand][slot] = self.card_for[hand][meant[0]]
+                self.learn(hand, self.card_for[hand][slot], words)
+        self.read[hand].add((writer, number))
+
+
+WORDS = ("big", "old", "red", "tall", "wet")
+
+
+def some_words(chance, pool, most=3):
+    return tuple(sorted(chance.sample(sorted(pool), min(len(pool), chance.randint(0, most)))))
+
+
+def some_lines(chance, slow, hand, other):
+    """Lines by chance, mostly of what the two have spoken of."""
+    spoken = {slow.card_for[hand][slot] for slots, _ in slow.ground_file(hand, other) for slot in slots}
+    lots = [lot for lot in slow.lots[hand] if lot[0] & spoken or chance.random() < 0.15] or slow.lots[hand]
+    chosen = chance.sample(lots, min(len(lots), chance.choice((0, 1, 1, 2, 2, 3, 4))))
+    said = [tuple(sorted(words)) if chance.random() < 0.6 else some_words(chance, words) for _, words in chosen]
+    return tuple((chance.choice(sorted(lot[0])), words) for lot, words in zip(chosen, said))
+
+
+def some_number(chance, slow, writer, reader):
+    """The number of a letter, mostly of one that isn't read yet."""
+    numbers = [key[2] for key in slow.told if key[:2] == (writer, reader)]
+    late = [number for number in numbers if (writer, number) not in slow.read[reader]]
+    return chance.choice(late if late and chance.random() < 0.9 else numbers + [len(numbers) + 1])
+
+
+def some_deed(chance, slow, things):
+    """A deed by chance, which can perhaps be done; things are the words that may be seen of each."""
+    hand = chance.choice(slow.hands)
+    other = chance.choice([name for name in slow.hands if name != hand])
+    many = len(slow.things[hand])
+    kind = chance.choice(("see", "look", "one", "one") + ("write",) * 5 + ("read",) * 8)
+    if kind == "see" and many > 2 and chance.random() < 0.9:
+        kind = "write"
+    if kind == "see":
+        thing = chance.randrange(len(things))
+        return kind, hand, thing, things[thing] if chance.random() < 0.6 else some_words(chance, things[thing])
+    if kind == "look":
+        card = chance.randrange(many + 1)
+        return kind, hand, card, some_words(chance, things[slow.things[hand][card]] if card < many else (), 2)
+    if kind == "one":
+        card = chance.randrange(many + 1)
+        same = [other for other in range(many) if card < many and slow.things[hand][other] == slow.things[hand][card]]
+        return kind, hand, card, chance.choice(same or [many])
+    if kind == "write":
+        return kind, hand, other, some_lines(chance, slow, hand, other)
+    return kind, hand, other, some_number(chance, slow, other, hand)
+
+
+def by_chance(seed, many=40):
+    """A Slow with a history of so many deeds, the same for the same seed."""
+    chance = Random(seed)
+    slow = Slow(("ann", "bob", "cy", "dan", "eve")[:chance.choice((2, 2, 2, 2, 2, 3, 3, 4, 5))])
+    words = WORDS[:chance.choice((3, 4, 5, 5, 5))]
+    things = [some_words(chance, words, 4) for _ in range(chance.randint(2, 6))]
+    while len(slow.deeds) < many:
+        deed = some_deed(chance, slow, things)
+        if slow.can(deed):
+            slow.do(deed)
+    return slow
