@@ -24,11 +24,13 @@ def least_safe(faces, others):
     Faces and others are given by their words. A face all words of which were
     said of one of the others, too, is left out: no words tell the two apart.
     """
-    clear = [face for face in faces if not any([covers(other, face) for other in others])]
+    # Lots are often alike: a long talk would have no end if each were asked beside each.
+    barring = sorted(set(others))
+    clear = [face for face in sorted(set(faces)) if not any([covers(other, face) for other in barring])]
     words = sorted({word for face in clear for word in face})
     bits = {word: 1 << k for k, word in enumerate(words)}
     wanted = masks_of(clear, bits)
-    barred = masks_of(others, bits)
+    barred = masks_of(barring, bits)
     for size in range(len(words) + 1):
         for some in combinations(words, size):
             mask = sum([bits[word] for word in some])

@@ -4,6 +4,7 @@ SIGNS = "abcdefghijklmnopqrstuvwxyz"
 LONGEST = 8
 FEWEST_HANDS = 2
 MOST_HANDS = 5
+GREATEST_NUMBER = 60
 
 
 def is_whole(thing, least=0):
@@ -43,6 +44,11 @@ def is_line(thing):
     return is_row(thing, 2) and is_whole(thing[0]) and is_words(thing[1])
 
 
+def are_lines(thing):
+    """Whether a thing is the lines that a deed writes."""
+    return isinstance(thing, tuple) and all([is_line(line) for line in thing])
+
+
 def is_deed(thing, hands):
     """Whether a thing is of a deed's form, with hands of these."""
     if not is_row(thing, 4) or thing[1] not in hands:
@@ -55,7 +61,7 @@ def is_deed(thing, hands):
     if what not in hands or what == hand:
         return False
     if kind == "write":
-        return isinstance(last, tuple) and all([is_line(line) for line in last])
+        return are_lines(last)
     return kind == "read" and is_whole(last, 1)
 
 
@@ -74,6 +80,11 @@ def is_told_line(thing):
     return is_row(thing, 2) and (thing[0] is None or is_words(thing[0])) and is_words(thing[1])
 
 
+def are_told_lines(thing):
+    """Whether a thing is the lines that a letter tells."""
+    return isinstance(thing, tuple) and all([is_told_line(line) for line in thing])
+
+
 def is_letter(thing):
     """Whether a thing is a letter by form."""
     if not is_row(thing, 5):
@@ -81,4 +92,42 @@ def is_letter(thing):
     writer, reader, number, names, lines = thing
     if not is_word(writer) or not is_word(reader) or writer == reader or not is_whole(number, 1):
         return False
-    return are_names(names, writer) and isinstance(lines, tuple) and all([is_told_line(line) for line in lines])
+    return are_names(names, writer) and are_told_lines(lines)
+
+
+def is_number(thing):
+    """Whether a thing is a letter's number as views and letters that are read tell it."""
+    return is_whole(thing, 1) and thing <= GREATEST_NUMBER
+
+
+def are_names_of(thing, hands):
+    """Whether a thing is a rising tuple of tuples (one of the hands, a letter's number)."""
+    if not isinstance(thing, tuple) or not all([is_row(name, 2) for name in thing]):
+        return False
+    return all([hand in hands and is_number(number) for hand, number in thing]) and is_rising(thing)
+
+
+def is_entry(thing, hands):
+    """Whether a thing is of the form of a view's entry, with hands of these."""
+    if is_row(thing, 2):
+        return thing[0] == "see" and is_words(thing[1])
+    if is_row(thing, 5):
+        kind, other, number, names, lines = thing
+        if kind != "read" or other not in hands or not is_number(number):
+            return False
+        return are_names_of(names, hands) and are_told_lines(lines)
+    if not is_row(thing, 3):
+        return False
+    kind, what, last = thing
+    if kind == "write":
+        return what in hands and are_lines(last)
+    if not is_whole(what):
+        return False
+    return is_words(last) if kind == "look" else kind == "one" and is_whole(last)
+
+
+def is_view(thing, hands):
+    """Whether a thing is of a view's form, with hands of these."""
+    if not is_row(thing, 2) or thing[0] not in hands or not isinstance(thing[1], tuple):
+        return False
+    return all([is_entry(entry, hands) for entry in thing[1]])

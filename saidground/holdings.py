@@ -43,15 +43,6 @@ class Holding:
                 faces.append(words)
         return least_safe(faces, others)
 
-    def may_write(self, lines):
-        """Whether the lines' cards are there and in unlike lots, and their words known."""
-        if not all([self.lots.has(card) for card, words in lines]):
-            return False
-        heads = [self.lots.head(card) for card, words in lines]
-        if len(set(heads)) < len(heads):
-            return False
-        return not any([self.lots.unknown(card, words) for card, words in lines])
-
     def write(self, other, lines):
         """Write the next letter to the other, and put it into the talks."""
         lots = self.ground_file(other)

@@ -2,67 +2,76 @@
 
 from saidground.descriptions import fitting
 from saidground.holdings import Holding
-from saidground.talks import Talks
+from saidground.talks import Talks, names_can_stand
 from saidground.worlds import World
 
 
-def entry_of(talks, deed):
-    """What the doer of a deed has of it in its view; its letter is one of the talks."""
-    kind, hand, what, last = deed
-    if kind == "see":
-        return (kind, last)
-    if kind == "read":
-        told = talks.letters[(what, hand, last)]
-        return (kind, what, last, told[3], told[4])
-    return (kind, what, last)
-
-
-def view_in(talks, deeds, hand):
-    """The view that a hand has of these deeds, by which these talks came."""
-    return hand, tuple([entry_of(talks, deed) for deed in deeds if deed[1] == hand])
-
-
 def holding_of(view):
-    """What the hand of a view holds at its end."""
-    hand, entries = view
-    held = Holding(hand, Talks())
-    for entry in entries:
-        if entry[0] == "see":
-            held.lots.new(entry[1])
-        elif entry[0] == "look":
-            held.lots.learn(entry[1], entry[2])
-        elif entry[0] == "one":
-            held.lots.unite(entry[1], entry[2])
-        elif entry[0] == "write":
-            held.write(entry[1], entry[2])
-        elif entry[1:3] not in held.names:
-            take_letter(held, (entry[1], hand, *entry[2:]))
+    """What the hand of a view holds at its end, None where an entry can't be done, or read, there."""
+    held = Holding(view[0], Talks())
+    for entry in view[1]:
+        if not take(held, entry):
+            return None
     return held
 
 
+def take(held, entry):
+    """Do what an entry tells; whether it can be done."""
+    kind = entry[0]
+    if kind == "see":
+        held.lots.new(entry[1])
+        return True
+    if kind == "read":
+        return take_letter(held, (entry[1], held.hand, *entry[2:]))
+    what, last = entry[1:]
+    if kind == "write":
+        if what == held.hand or not held.lots.has_all(last) or not held.lots.may_stand(last):
+            return False
+        held.write(what, last)
+    elif not held.lots.has(what):
+        return False
+    elif kind == "look":
+        held.lots.learn(what, last)
+    elif not held.lots.has(last):
+        return False
+    else:
+        held.lots.unite(what, last)
+    return True
+
+
 def take_letter(held, letter):
-    """A hand reads a letter that its talks don't have yet."""
+    """Read a letter; whether it can have come, as far as what is read tells. Its names' safety is not asked."""
     writer, reader, number, names, lines = letter
+    if letter[:3] in held.talks.letters:
+        return held.talks.letters[letter[:3]] == letter
+    if writer == reader or not names_can_be(held, letter):
+        return False
     ground = held.talks.ground(writer, reader, names)
     held.talks.put(letter, held.talks.public_file(ground))
+    if not all(held.talks.meanings(letter)):
+        return False
     held.read(letter)
+    return True
+
+
+def names_can_be(held, letter):
+    """Whether a letter's names tell of letters that are there, and can stand beside those read ahead."""
+    writer, reader, number, names, lines = letter
+    if any([hand == writer or (hand == reader and told > held.written(writer)) for hand, told in names]):
+        return False
+    read = [told for hand, told in held.names if hand == writer]
+    return names_can_stand(number, names, {told: held.talks.letters[(writer, reader, told)][3] for told in read})
 
 
 class Making:
-    """A least history in the making: its deeds so far, and the world that they make."""
+    """A least history in the making: what its hand holds at the end, and the world of its deeds so far."""
 
-    def __init__(self, hands, view):
+    def __init__(self, hands, view, own):
         self.hand, self.entries = view
-        self.own = holding_of(view)
-        self.numbers = {lot[0][0]: number for number, lot in enumerate(self.own.lots.listed())}
+        self.own = own
+        self.numbers = {lot[0][0]: number for number, lot in enumerate(own.lots.listed())}
         self.told = {entry[1:3]: entry[3:] for entry in self.entries if entry[0] == "read"}
         self.world = World(hands)
-        self.deeds = []
-
-    def do(self, deed):
-        """Do one more deed."""
-        self.world.do(deed)
-        self.deeds.append(deed)
 
     def thing_of(self, card):
         """The thing of the hand's own card: its lot at the view's end."""
@@ -77,34 +86,35 @@ class Making:
                     greatest[(writer, reader)] = max(number, greatest.get((writer, reader), 0))
         for writer, reader in sorted(greatest):
             for _ in range(greatest[(writer, reader)]):
-                self.do(("write", writer, reader, ()))
+                self.world.do(("write", writer, reader, ()))
 
     def do_own(self, entry):
-        """Do the deed that an entry tells of, behind what must be ahead of it."""
+        """Do the deed that an entry tells of, behind what must be ahead of it; whether that can be made."""
         if entry[0] == "see":
             card = len(self.world.things[self.hand])
-            self.do(("see", self.hand, self.thing_of(card), entry[1]))
-        elif entry[0] == "read":
-            self.write_up_to(entry[1], entry[2])
-            self.do(("read", self.hand, entry[1], entry[2]))
-        else:
-            self.do((entry[0], self.hand, entry[1], entry[2]))
+            self.world.do(("see", self.hand, self.thing_of(card), entry[1]))
+            return True
+        if entry[0] == "read" and not self.write_up_to(entry[1], entry[2]):
+            return False
+        self.world.do((entry[0], self.hand, entry[1], entry[2]))
+        return True
 
     def write_up_to(self, writer, number):
         """Another hand writes its letters up to that number, those that are lost without lines."""
         for earlier in range(self.world.held[writer].written(self.hand) + 1, number + 1):
-            if (writer, earlier) in self.told:
-                self.write_told(writer, earlier)
-            else:
-                self.do(("write", writer, self.hand, ()))
+            if (writer, earlier) not in self.told:
+                self.world.do(("write", writer, self.hand, ()))
+            elif not self.write_told(writer, earlier):
+                return False
+        return True
 
     def write_told(self, writer, number):
-        """Another hand writes a letter that the hand reads, behind what its names tell of."""
+        """Another hand writes a letter that the hand reads; whether it is the one that the hand reads."""
         names, lines = self.told[(writer, number)]
         held = self.world.held[writer]
         for name in names:
             if name not in held.names:
-                self.do(("read", writer, *name))
+                self.world.do(("read", writer, *name))
         lots = held.ground_file(self.hand)
         written = []
         for k, (name, words) in enumerate(lines):
@@ -113,12 +123,16 @@ class Making:
             else:
                 card = self.find_one(writer, [lots[at][0] for at in fitting(lots, name)], words)
             written.append((card, words))
-        self.do(("write", writer, self.hand, tuple(written)))
+        deed = ("write", writer, self.hand, tuple(written))
+        if not self.world.can(deed):
+            return False
+        self.world.do(deed)
+        return self.world.talks.letters[(writer, self.hand, number)][3:] == (names, lines)
 
     def see_new(self, slot, words):
         """The writer sees the thing of a new line: its card."""
         card = len(self.world.things[slot[0]])
-        self.do(("see", slot[0], self.thing_of(self.own.cards[slot]), words))
+        self.world.do(("see", slot[0], self.thing_of(self.own.cards[slot]), words))
         return card
 
     def find_one(self, writer, meant, words):
@@ -127,17 +141,21 @@ class Making:
         cards = sorted({held.cards[slot] for slots in meant for slot in slots})
         for other in cards:
             if held.lots.head(other) != held.lots.head(cards[0]):
-                self.do(("one", writer, cards[0], other))
+                self.world.do(("one", writer, cards[0], other))
         unknown = held.lots.unknown(cards[0], words)
         if unknown:
-            self.do(("look", writer, cards[0], unknown))
+            self.world.do(("look", writer, cards[0], unknown))
         return cards[0]
 
 
-def least_of(hands, view):
-    """The least history of a view, with these hands."""
-    making = Making(hands, view)
+def least_world(hands, view):
+    """The world of a view's least history, None where what has a view's form is none."""
+    own = holding_of(view)
+    if own is None:
+        return None
+    making = Making(hands, view, own)
     making.write_thirds()
     for entry in making.entries:
-        making.do_own(entry)
-    return hands, tuple(making.deeds)
+        if not making.do_own(entry):
+            return None
+    return making.world

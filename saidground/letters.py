@@ -3,7 +3,7 @@
 from saidground.descriptions import fitting
 from saidground.errors import NoCard, NoHand, NoLetter, NoLetters
 from saidground.forms import is_whole
-from saidground.least import least_of, view_in
+from saidground.least import least_world
 from saidground.publics import public_of
 from saidground.worlds import world_of
 
@@ -29,12 +29,13 @@ def held_beside(history, hand, other):
     return world.held[hand]
 
 
-def held_with_card(history, hand, other, card):
-    """What a hand of a history holds at its end, where another one and a card are told, too."""
-    held = held_beside(history, hand, other)
-    if not is_whole(card) or not held.lots.has(card):
+def world_with_card(history, hand, other, card):
+    """A history's world at its end, where a hand, another one and a card of the hand are told, too."""
+    world = world_of(history)
+    check_hands(history, hand, other)
+    if not is_whole(card) or not world.held[hand].lots.has(card):
         raise NoCard()
-    return held
+    return world
 
 
 def file_of(history, hand):
@@ -87,7 +88,7 @@ def fits(lots, words):
 
 def name_for(history, hand, other, card):
     """The name that a line of the card would have now."""
-    held = held_with_card(history, hand, other, card)
+    held = world_with_card(history, hand, other, card).held[hand]
     return held.name(held.ground_file(other), card)
 
 
@@ -104,18 +105,18 @@ def unsafe_in(held, lots, card, words):
 
 def unsafe(history, hand, other, card, words):
     """None where words are safe for a card now, else why they aren't."""
-    held = held_with_card(history, hand, other, card)
+    held = world_with_card(history, hand, other, card).held[hand]
     return unsafe_in(held, held.ground_file(other), card, words)
 
 
 def misread(history, hand, other, card, words):
     """None where words are safe for a card now, else the least history, in which they would be misread."""
-    held = held_with_card(history, hand, other, card)
-    lots = held.ground_file(other)
-    wrong = unsafe_in(held, lots, card, words)
+    world = world_with_card(history, hand, other, card)
+    lots = world.held[hand].ground_file(other)
+    wrong = unsafe_in(world.held[hand], lots, card, words)
     if wrong is None:
         return None
-    least = least_of(history[0], view_in(held.talks, history[1], hand))
+    least = least_world(world.hands, world.view(hand)).history()
     if wrong[0] == "nothing":
         return ("nothing", least)
     return ("one", least, lots[wrong[1]][0][0])

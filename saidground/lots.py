@@ -24,9 +24,28 @@ class Lots:
         """Whether a whole number from 0 on is a place."""
         return place < len(self.heads)
 
+    def has_all(self, lines):
+        """Whether the places of all lines, tuples (place, words), are there."""
+        return all([self.has(place) for place, words in lines])
+
+    def may_stand(self, lines):
+        """Whether the lines' places, which are there, are in unlike lots, and their words those lots'."""
+        heads = [self.heads[place] for place, words in lines]
+        if len(set(heads)) < len(heads):
+            return False
+        return not any([self.unknown(place, words) for place, words in lines])
+
     def head(self, place):
         """The least place of that one's lot: two are one where their heads are the same."""
         return self.heads[place]
+
+    def lot(self, place):
+        """The places, rising, of that one's lot."""
+        return sorted(self.members[self.heads[place]])
+
+    def known(self, place):
+        """The words of that place's lot."""
+        return tuple(self.words[self.heads[place]])
 
     def unknown(self, place, words):
         """Those of the words that aren't the lot's."""
@@ -52,6 +71,26 @@ class Lots:
         del self.members[gone]
         del self.words[gone]
 
+    def copy(self):
+        """The same places in lots of their own."""
+        twin = Lots()
+        twin.heads = list(self.heads)
+        twin.members = {head: list(self.members[head]) for head in self.members}
+        twin.words = {head: dict(self.words[head]) for head in self.words}
+        return twin
+
     def listed(self):
         """The lots by their heads: tuples (places, words) of two rising tuples."""
         return [(tuple(sorted(self.members[head])), tuple(sorted(self.words[head]))) for head in sorted(self.members)]
+
+
+def lots_of(members, words, joins):
+    """The lots of members, which rise and each have words: those that stand in a join together are one."""
+    places = {member: place for place, member in enumerate(members)}
+    lots = Lots()
+    for some in words:
+        lots.new(some)
+    for join in joins:
+        for member in join[1:]:
+            lots.unite(places[join[0]], places[member])
+    return [(tuple([members[place] for place in lot]), said) for lot, said in lots.listed()]

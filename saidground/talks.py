@@ -1,7 +1,27 @@
 """Letters, their grounds, and what was said in them, by the letters alone."""
 
 from saidground.descriptions import fitting
-from saidground.lots import Lots
+from saidground.lots import lots_of
+
+
+def are_among(some, names):
+    """Whether all of some letters' names are among the names."""
+    there = {name: True for name in names}
+    return all([name in there for name in some])
+
+
+def names_can_stand(number, names, others):
+    """Whether a letter's names can stand beside those, by numbers, of other letters of its writer that were read.
+
+    They tell of all that those of lesser numbers tell of, and of nothing
+    that those of greater numbers don't. Those others stand so to one another,
+    so the next ones are enough.
+    """
+    lesser = [other for other in others if other < number]
+    greater = [other for other in others if other > number]
+    if lesser and not are_among(others[max(lesser)], names):
+        return False
+    return not greater or are_among(names, others[min(greater)])
 
 
 class Talks:
@@ -24,14 +44,8 @@ class Talks:
     def public_file(self, keys):
         """The public file of letters that are here, by their keys, rising, with their grounds."""
         slots = [(*key, k) for key in keys for k in range(len(self.letters[key][4]))]
-        places = {slot: place for place, slot in enumerate(slots)}
-        lots = Lots()
-        for slot in slots:
-            lots.new(self.letters[slot[:3]][4][slot[3]][1])
-        for slot in slots:
-            for other in self.meant.get(slot, ()):
-                lots.unite(places[slot], places[other])
-        return [(tuple([slots[place] for place in lot]), words) for lot, words in lots.listed()]
+        words = [self.letters[slot[:3]][4][slot[3]][1] for slot in slots]
+        return lots_of(slots, words, [(slot, *self.meant[slot]) for slot in slots if slot in self.meant])
 
     def hold(self, letter):
         """Take in a letter; what its descriptions mean is to be found yet."""

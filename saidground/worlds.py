@@ -7,12 +7,38 @@ from saidground.talks import Talks
 
 
 class World:
-    """What each of the hands holds, and of which thing each card is."""
+    """What each of the hands holds, of which thing each card is, and each thing's true words."""
 
     def __init__(self, hands):
+        self.hands = hands
+        self.deeds = []
         self.talks = Talks()
         self.held = {hand: Holding(hand, self.talks) for hand in hands}
         self.things = {hand: [] for hand in hands}
+        self.true = {}
+
+    def history(self):
+        """The history of the deeds done."""
+        return self.hands, tuple(self.deeds)
+
+    def view(self, hand):
+        """What a hand has of that history."""
+        return hand, tuple([self.entry(deed) for deed in self.deeds if deed[1] == hand])
+
+    def entry(self, deed):
+        """What the doer of a deed has of it."""
+        kind, hand, what, last = deed
+        if kind == "see":
+            return (kind, last)
+        if kind == "read":
+            told = self.talks.letters[(what, hand, last)]
+            return (kind, what, last, told[3], told[4])
+        return (kind, what, last)
+
+    def thing(self, slot):
+        """The thing of the card that the writer of a line meant, None where there is no such line."""
+        card = self.held[slot[0]].cards.get(slot)
+        return None if card is None else self.things[slot[0]][card]
 
     def can(self, deed):
         """Whether what is of a deed's form can be done now."""
@@ -26,24 +52,33 @@ class World:
             things = self.things[hand]
             return lots.has(what) and lots.has(last) and things[what] == things[last]
         if kind == "write":
-            return self.held[hand].may_write(last)
+            return lots.has_all(last) and lots.may_stand(last)
         return (what, hand, last) in self.talks.letters
 
     def do(self, deed):
         """Do a deed that can be done."""
         kind, hand, what, last = deed
         held = self.held[hand]
+        self.deeds.append(deed)
         if kind == "see":
             held.lots.new(last)
             self.things[hand].append(what)
+            self.show(what, last)
         elif kind == "look":
             held.lots.learn(what, last)
+            self.show(self.things[hand][what], last)
         elif kind == "one":
             held.lots.unite(what, last)
         elif kind == "write":
             held.write(what, last)
         elif (what, last) not in held.names:
             self.read((what, hand, last))
+
+    def show(self, thing, words):
+        """The words are true of the thing."""
+        true = self.true.setdefault(thing, {})
+        for word in words:
+            true[word] = True
 
     def read(self, key):
         """Its reader reads a letter for the first time; a new card is of the thing of the writer's."""

@@ -57,6 +57,7 @@ class Slow:
         self.told = {}
         self.kept = {}
         self.words = set()
+        self.true = {}
         self.lots = {hand: [] for hand in hands}
         self.things = {hand: [] for hand in hands}
         self.card_for = {hand: {} for hand in hands}
@@ -64,6 +65,15 @@ class Slow:
 
     def history(self):
         return self.hands, tuple(self.deeds)
+
+    def view(self, hand):
+        return hand, tuple(self.entry(deed) for deed in self.deeds if deed[1] == hand)
+
+    def entry(self, deed):
+        kind, hand, what, last = deed
+        if kind == "see":
+            return kind, last
+        return (kind, what, last, *self.told[(what, hand, last)][3:]) if kind == "read" else (kind, what, last)
 
     def lot(self, hand, card):
         return next(lot for lot in self.lots[hand] if card in lot[0])
@@ -111,6 +121,7 @@ class Slow:
         kind, hand, what, last = deed
         if kind in ("see", "look"):
             self.words.update(last)
+            self.true.setdefault(what if kind == "see" else self.things[hand][what], set()).update(last)
         if kind == "see":
             self.new_card(hand, what, last)
         elif kind == "look":
@@ -131,14 +142,17 @@ class Slow:
         for k, (card, _) in enumerate(lines):
             self.card_for[hand][(hand, other, number, k)] = card
 
+    def thing(self, slot):
+        return self.things[slot[0]][self.card_for[slot[0]][slot]]
+
     def do_read(self, hand, writer, number):
         _, _, _, names, lines = self.told[(writer, hand, number)]
         lots = public_file(self.told, ground_of(self.told, writer, hand, names), self.kept)
         for k, (name, words) in enumerate(lines):
             slot = (writer, hand, number, k)
+            self.words.update(words)
             if name is None:
-                thing = self.things[writer][self.card_for[writer][slot]]
-                self.card_for[hand][slot] = self.new_card(hand, thing, words)
+                self.card_for[hand][slot] = self.new_card(hand, self.thing(slot), words)
             else:
                 meant = sorted(slot for slots in self.fit(lots, name) for slot in slots)
                 cards = {self.card_for[hand][slot] for slot in meant}
@@ -146,6 +160,117 @@ class Slow:
                 self.card_for[hand][slot] = self.card_for[hand][meant[0]]
                 self.learn(hand, self.card_for[hand][slot], words)
         self.read[hand].add((writer, number))
+
+
+def played(history):
+    """A Slow that has done a history's deeds."""
+    slow = Slow(history[0])
+    for deed in history[1]:
+        assert slow.can(deed), deed
+        slow.do(deed)
+    return slow
+
+
+class Alone(Slow):
+    """What one hand holds by its view, with what it read put among the letters."""
+
+    def __init__(self, hands, view):
+        super().__init__(hands)
+        hand, entries = view
+        for entry in entries:
+            if entry[0] == "see":
+                self.must(("see", hand, 0, entry[1]))
+            elif entry[0] != "read":
+                self.must((entry[0], hand, *entry[1:]))
+            else:
+                letter = (entry[1], hand, *entry[2:])
+                assert self.told.setdefault(letter[:3], letter) == letter
+                assert entry[1] != hand and all(name[0] != entry[1] for name in entry[3])
+                assert all(number <= self.many(hand, entry[1]) for name, number in entry[3] if name == hand)
+                self.must(("read", hand, *entry[1:3]))
+
+    def many(self, writer, reader):
+        return len([key for key in self.told if key[:2] == (writer, reader)])
+
+    def must(self, deed):
+        assert len(deed) == 4 and deed[1] != deed[2] and self.can(deed)
+        self.do(deed)
+
+    def thing(self, slot):
+        return 0
+
+
+class Least(Slow):
+    """A view's least history as point 21 tells it; where it can't be made, or has another view, an error."""
+
+    def __init__(self, hands, view):
+        super().__init__(hands)
+        hand, entries = view
+        self.hand = hand
+        self.own = Alone(hands, view)
+        self.firsts = sorted(min(members) for members, _ in self.own.lots[hand])
+        self.letters = {entry[1:3]: entry[3:] for entry in entries if entry[0] == "read"}
+        self.make_thirds()
+        for entry in entries:
+            if entry[0] == "see":
+                card = len(self.things[hand])
+                self.must(("see", hand, self.number(card), entry[1]))
+            elif entry[0] != "read":
+                self.must((entry[0], hand, *entry[1:]))
+            else:
+                for number in range(1, entry[2] + 1):
+                    if (entry[1], hand, number) not in self.told:
+                        self.make(entry[1], number)
+                self.must(("read", hand, *entry[1:3]))
+        assert self.view(hand) == view
+
+    must = Alone.must
+
+    def number(self, card):
+        return self.firsts.index(min(self.own.lot(self.hand, card)[0]))
+
+    def make_thirds(self):
+        thirds = {}
+        for (reader, _), (names, _) in self.letters.items():
+            for writer, number in names:
+                if writer != self.hand:
+                    thirds[writer, reader] = max(number, thirds.get((writer, reader), 0))
+        for writer, reader in sorted(thirds):
+            for _ in range(thirds[writer, reader]):
+                self.must(("write", writer, reader, ()))
+
+    def make(self, writer, number):
+        names, lines = self.letters.get((writer, number), ((), ()))
+        for name in names:
+            if name not in self.read[writer]:
+                self.must(("read", writer, *name))
+        file = self.ground_file(writer, self.hand)
+        cards = [self.make_line(writer, (writer, self.hand, number, k), line, file) for k, line in enumerate(lines)]
+        self.must(("write", writer, self.hand, tuple(zip(cards, [words for _, words in lines]))))
+
+    def make_line(self, writer, slot, line, file):
+        if line[0] is None:
+            self.must(("see", writer, self.number(self.own.card_for[self.hand][slot]), line[1]))
+            return len(self.things[writer]) - 1
+        cards = sorted({self.card_for[writer][meant] for slots in self.fit(file, line[0]) for meant in slots})
+        for other in cards:
+            if other not in self.lot(writer, cards[0])[0]:
+                self.must(("one", writer, cards[0], other))
+        more = tuple(word for word in line[1] if word not in self.lot(writer, cards[0])[1])
+        if more:
+            self.must(("look", writer, cards[0], more))
+        return cards[0]
+
+
+def slow_wrong(hands, view):
+    """view_wrong's answer of what is of a view's form, by trying all beginnings."""
+    hand, entries = view
+    for many in range(1, len(entries) + 1):
+        try:
+            Least(hands, (hand, entries[:many]))
+        except (AssertionError, LookupError):
+            return "entry", many - 1
+    return None
 
 
 WORDS = ("big", "old", "red", "tall", "wet")

@@ -7,16 +7,7 @@ from random import Random
 from saidground.histories import history_wrong
 from saidground.letters import (cards_of, file_of, fits, ground, ground_file, letters, misread, name_for, public,
                                 unread, unsafe)
-from tests.helper import WORDS, Slow, by_chance, listed, public_file, subsets
-
-
-def played(history):
-    """A Slow that has done a history's deeds."""
-    slow = Slow(history[0])
-    for deed in history[1]:
-        assert slow.can(deed), deed
-        slow.do(deed)
-    return slow
+from tests.helper import WORDS, by_chance, listed, played, public_file, subsets
 
 
 def seen_by(slow, hand):
