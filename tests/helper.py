@@ -273,6 +273,25 @@ def slow_wrong(hands, view):
     return None
 
 
+def slow_holds(slow, saying):
+    """Whether a saying holds in a history, by points 30 and 21."""
+    kind, *rest = saying
+    if kind in ("wrote", "read"):
+        writer, reader, number = rest
+        return (writer, reader, number) in slow.told and (kind == "wrote" or (writer, number) in slow.read[reader])
+    if kind == "both":
+        return all([slow_holds(slow, part) for part in rest])
+    if kind == "either":
+        return any([slow_holds(slow, part) for part in rest])
+    if kind == "knows":
+        return slow_holds(Least(slow.hands, slow.view(rest[0])), rest[1])
+    slots = rest if kind == "one" else rest[:1]
+    if not all(slot[:3] in slow.told and slot[3] < len(slow.told[slot[:3]][4]) for slot in slots):
+        return False
+    things = [slow.things[slot[0]][slow.card_for[slot[0]][slot]] for slot in slots]
+    return things[0] == things[1] if kind == "one" else rest[1] in slow.true[things[0]]
+
+
 WORDS = ("big", "old", "red", "tall", "wet")
 
 
@@ -330,3 +349,21 @@ def by_chance(seed, many=40):
         if slow.can(deed):
             slow.do(deed)
     return slow
+
+
+def some_saying(chance, slow, deep=4):
+    """A saying by chance, mostly of what is there."""
+    kind = chance.choice(("wrote", "read", "one", "one", "word", "word") + ("both", "either", "knows", "knows") * (deep > 1))
+    letters = sorted(slow.told) + [("ann", "ann", 1), ("bob", "ann", 99)]
+    slots = [slot for hand in slow.hands for slot in slow.card_for[hand] if slot[0] == hand] + [("ann", "bob", 1, 7)]
+    if kind in ("wrote", "read"):
+        return (kind, *chance.choice(letters))
+    if kind == "one":
+        slot = chance.choice(slots)
+        same = [other for other in slots[:-1] if slow_holds(slow, ("one", slot, other))]
+        return kind, slot, chance.choice(same if same and chance.random() < 0.8 else slots)
+    if kind == "word":
+        return kind, chance.choice(slots), chance.choice(WORDS)
+    if kind == "knows":
+        return kind, chance.choice(slow.hands), some_saying(chance, slow, deep - 1)
+    return kind, some_saying(chance, slow, deep - 1), some_saying(chance, slow, deep - 1)
