@@ -367,3 +367,45 @@ def some_saying(chance, slow, deep=4):
     if kind == "knows":
         return kind, chance.choice(slow.hands), some_saying(chance, slow, deep - 1)
     return kind, some_saying(chance, slow, deep - 1), some_saying(chance, slow, deep - 1)
+
+
+def bent(chance, slow, view):
+    """A view, bent once or twice: entries left out, put elsewhere or anew, letters told otherwise."""
+    hand, entries = view[0], list(view[1])
+    for _ in range(chance.randint(1, 2)):
+        reads = [k for k, entry in enumerate(entries) if entry[0] == "read"]
+        at = chance.randrange(len(entries) + 1)
+        kind = chance.choice(("out", "elsewhere", "again", "own") + ("letter",) * 6)
+        if kind == "own":
+            card = chance.randint(0, 4)
+            entries.insert(at, chance.choice((("look", card, ("big",)), ("one", card, chance.randint(0, 4)),
+                                              ("write", chance.choice(slow.hands), ((card, ()),)))))
+        elif kind == "letter" and reads:
+            k = chance.choice(reads)
+            entries[k] = bent_letter(chance, slow, entries[k])
+        elif kind == "again" and entries:
+            entries.insert(at, chance.choice(entries))
+        elif entries:
+            moved = entries.pop(chance.randrange(len(entries)))
+            if kind == "elsewhere":
+                entries.insert(chance.randint(0, len(entries)), moved)
+    return hand, tuple(entries)
+
+
+def bent_letter(chance, slow, entry):
+    """An entry that reads a letter, with its number, names or one of its lines told otherwise."""
+    kind, writer, number, names, lines = entry
+    what = chance.choice(("number", "names", "name", "name", "words", "line"))
+    if what == "number":
+        number = chance.randint(1, 6)
+    elif what == "names":
+        names = {*names} ^ {chance.choice(sorted({*names, (chance.choice(slow.hands), chance.randint(1, 6))}))}
+    elif lines:
+        at = chance.randrange(len(lines))
+        name, words = lines[at]
+        if what == "name":
+            name = chance.choice((None, (), some_words(chance, WORDS, 2), some_words(chance, WORDS, 2)))
+        elif what == "words":
+            words = some_words(chance, WORDS)
+        lines = lines[:at] + ((name, words),) + lines[at + (what != "line"):]
+    return kind, writer, number, tuple(sorted(names)), lines

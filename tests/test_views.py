@@ -2,10 +2,12 @@
 
 import time
 import unittest
+from random import Random
 
 from saidground.errors import NoHand, NoHands, NoHistory, NoView
 from saidground.histories import history_wrong, printed, read_history
 from saidground.views import least_history, parted, view_of, view_wrong
+from tests.helper import Least, bent, by_chance, slow_wrong
 
 HANDS = ("ann", "bob", "cy")
 NO_HANDS = (None, 5, True, "ann", (), ("ann",), ["ann", "bob"], ("bob", "ann"), ("ann", "ann"), ("ann", 5),
@@ -361,6 +363,32 @@ class Long(unittest.TestCase):
             entries = view[1]
             self.assertEqual(wrong(*entries, ("look", 999, ()), hand=hand), ("entry", len(entries)))
         self.assertLess(time.monotonic() - start, 20)
+
+
+class ByChance(unittest.TestCase):
+    def test_least_histories_against_a_slow_reading(self):
+        for seed in range(60):
+            slow = by_chance(seed, 45)
+            for hand in slow.hands:
+                view = view_of(slow.history(), hand)
+                self.assertEqual(view, slow.view(hand))
+                told = least_history(slow.hands, view)
+                self.assertEqual(told, Least(slow.hands, view).history())
+                self.assertIsNone(history_wrong(told))
+                self.assertEqual(view_of(told, hand), view)
+
+    def test_what_is_bent_against_a_slow_reading(self):
+        told = {True: 0, False: 0}
+        for seed in range(60):
+            slow = by_chance(seed, 30)
+            chance = Random(seed)
+            for hand in slow.hands:
+                for _ in range(6):
+                    view = bent(chance, slow, slow.view(hand))
+                    wrong = view_wrong(slow.hands, view)
+                    self.assertEqual(wrong, slow_wrong(slow.hands, view), view)
+                    told[wrong is None] += 1
+        self.assertGreater(min(told.values()), 100)
 
 
 class Parted(unittest.TestCase):
