@@ -353,7 +353,8 @@ def by_chance(seed, many=40):
 
 def some_saying(chance, slow, deep=4):
     """A saying by chance, mostly of what is there."""
-    kind = chance.choice(("wrote", "read", "one", "one", "word", "word") + ("both", "either", "knows", "knows") * (deep > 1))
+    around = ("both", "either", "knows", "knows") if deep > 1 else ()
+    kind = chance.choice(("wrote", "read", "one", "one", "word", "word") + around)
     letters = sorted(slow.told) + [("ann", "ann", 1), ("bob", "ann", 99)]
     slots = [slot for hand in slow.hands for slot in slow.card_for[hand] if slot[0] == hand] + [("ann", "bob", 1, 7)]
     if kind in ("wrote", "read"):

@@ -140,7 +140,8 @@ class Refused(unittest.TestCase):
                 Hand(bad, HANDS)
 
     def test_words(self):
-        for bad in (None, True, 5, "red", ["red"], ("red", "old"), ("red", "red"), ("Red",), ("",), (5,), ("toolongaa",)):
+        for bad in (None, True, 5, "red", ["red"], ("red", "old"), ("red", "red"), ("Red",), ("",), (5,),
+                    ("toolongaa",)):
             self.refused(NoWords, "see", bad)
             self.refused(NoWords, "look", 0, bad)
             self.refused(NoCard, "look", 9, bad)
@@ -162,33 +163,41 @@ class Refused(unittest.TestCase):
             self.refused(NoHand, "kept", bad)
 
     def test_lines(self):
-        for bad in (None, True, 5, "lines", [], (0, ()), ((0,),), ((0, (), ()),), ([0, ()],), (None,), ((True, ()),), ((-1, ()),),
-                    ((None, ()),), (("0", ()),), ((0, None),), ((0, ("red", "big")),), ((0, ["red"]),), ((0, ("Red",)),)):
+        for bad in (None, True, 5, "lines", [], (0, ()), ((0,),), ((0, (), ()),), ([0, ()],), (None,), ((True, ()),),
+                    ((-1, ()),),
+                    ((None, ()),), (("0", ()),), ((0, None),), ((0, ("red", "big")),), ((0, ["red"]),),
+                    ((0, ("Red",)),)):
             self.refused(NoLines, "write", "bob", bad)
             if isinstance(bad, tuple):
                 self.refused(NoLines, "write", "bob", ((9, ()), (0, ()), (0, ())) + bad)
         for bad in (((3, ()),), ((0, ()), (3, ())), ((3, ()), (0, ()), (0, ())), ((0, ()), (0, ()), (3, ())),
                     ((0, ("old",)), (3, ()))):
             self.refused(NoCard, "write", "bob", bad)
-        for bad in (((0, ()), (0, ())), ((1, ()), (0, ()), (2, ())), ((0, ("old",)),), ((0, ("zzz",)),), ((0, ()), (1, ("red",)))):
+        for bad in (((0, ()), (0, ())), ((1, ()), (0, ()), (2, ())), ((0, ("old",)),), ((0, ("zzz",)),),
+                    ((0, ()), (1, ("red",)))):
             self.refused(NoLines, "write", "bob", bad)
         self.hand.write("bob", ((0, ("big",)), (2, ("old", "wet"))))
 
     def test_no_letter_by_form(self):
         good = ("bob", "ann", 1, (("ann", 1),), ((("big",), ()),))
-        for bad in (None, True, 5, "letter", (), good[:4], good + ((),), list(good), (*good[:4], [((), ())]), (*good[:4], None),
+        for bad in (None, True, 5, "letter", (), good[:4], good + ((),), list(good), (*good[:4], [((), ())]),
+                    (*good[:4], None),
                     (*good[:3], None, ()), (*good[:3], [], ())):
             self.assertEqual(self.refused(NoLetter, "read", bad).wrong, ("form",), bad)
-        for k, values in ((0, ("ann", "dan", "", None, 5, "Bob", ["bob"])), (1, ("bob", "cy", "dan", None, "", 5, ["ann"])),
+        for k, values in ((0, ("ann", "dan", "", None, 5, "Bob", ["bob"])),
+                          (1, ("bob", "cy", "dan", None, "", 5, ["ann"])),
                           (2, (0, 61, -1, True, False, None, "1", [1]))):
             for value in values:
                 bad = good[:k] + (value,) + good[k + 1:]
                 self.assertEqual(self.refused(NoLetter, "read", bad).wrong, ("form",), bad)
-        for names in ((("bob", 1),), (("dan", 1),), (("ann", 0),), (("ann", 61),), (("ann", True),), (("cy", 1), ("ann", 1)),
-                      (("ann", 1), ("ann", 1)), (("ann",),), (("ann", 1, 1),), (["ann", 1],), (None,), ((None, 1),), (("ann", "1"),)):
+        for names in ((("bob", 1),), (("dan", 1),), (("ann", 0),), (("ann", 61),), (("ann", True),),
+                      (("cy", 1), ("ann", 1)),
+                      (("ann", 1), ("ann", 1)), (("ann",),), (("ann", 1, 1),), (["ann", 1],), (None,), ((None, 1),),
+                      (("ann", "1"),)):
             bad = (*good[:3], names, ())
             self.assertEqual(self.refused(NoLetter, "read", bad).wrong, ("form",), bad)
-        for line in (None, ((),), ((), (), ()), [(), ()], (0, ()), ("red", ()), (("red", "big"), ()), (["red"], ()), (None, None),
+        for line in (None, ((),), ((), (), ()), [(), ()], (0, ()), ("red", ()), (("red", "big"), ()), (["red"], ()),
+                     (None, None),
                      (None, "red"), (None, ["red"]), (None, ("red", "big")), (True, ()), (None, ("Red",))):
             bad = (*good[:4], (line,))
             self.assertEqual(self.refused(NoLetter, "read", bad).wrong, ("form",), bad)
@@ -205,9 +214,11 @@ class Refused(unittest.TestCase):
         for number, names, good in (
                 (1, (("ann", 3),), False), (5, (("ann", 1), ("ann", 3), ("cy", 2)), False),
                 (5, (("ann", 1), ("cy", 2)), True), (5, (("ann", 1), ("ann", 2), ("cy", 2), ("cy", 3)), True),
-                (5, (("ann", 1),), False), (5, (("cy", 2),), False), (5, (("ann", 2), ("cy", 2)), False), (5, (), False),
+                (5, (("ann", 1),), False), (5, (("cy", 2),), False), (5, (("ann", 2), ("cy", 2)), False),
+                (5, (), False),
                 (3, (("ann", 1), ("cy", 2)), True), (3, (("cy", 2),), True), (3, (), True),
-                (3, (("ann", 1), ("ann", 2), ("cy", 2)), False), (3, (("ann", 1), ("cy", 1)), False), (3, (("ann", 2),), False)):
+                (3, (("ann", 1), ("ann", 2), ("cy", 2)), False), (3, (("ann", 1), ("cy", 1)), False),
+                (3, (("ann", 2),), False)):
             letter = ("bob", "ann", number, names, ())
             if good:
                 self.assertEqual(self.hand.copy().read(letter), [])
@@ -224,7 +235,8 @@ class Refused(unittest.TestCase):
 
     def test_a_line_that_nothing_fits(self):
         for names, lines, k in (((), (((), ()),), 0), ((), ((None, ()), (("red",), ())), 1),
-                                ((("ann", 1),), ((("wet",), ()),), 0), ((("ann", 1),), ((("big",), ()), (("big",), ()), (("wet",), ())), 2),
+                                ((("ann", 1),), ((("wet",), ()),), 0),
+                                ((("ann", 1),), ((("big",), ()), (("big",), ()), (("wet",), ())), 2),
                                 ((("ann", 1),), ((("big",), ()), (("big", "old"), ()), (("wet",), ())), 1)):
             self.assertEqual(self.refused(NoLetter, "read", ("bob", "ann", 1, names, lines)).wrong, ("line", k), lines)
         self.assertEqual(self.hand.read(("bob", "ann", 1, (("ann", 1),), ((("big",), ()), (("old",), ())))), [0, 1])
@@ -240,7 +252,8 @@ class Refused(unittest.TestCase):
 
     def test_a_lesser_name_in_a_letter_read_ahead(self):
         names = (("ann", 1),)
-        for number, lines in ((3, ((None, ()), (("old",), ()))), (5, ((("big",), ()), (("old",), ()))), (4, ((("big",), ()),))):
+        for number, lines in ((3, ((None, ()), (("old",), ()))), (5, ((("big",), ()), (("old",), ()))),
+                              (4, ((("big",), ()),))):
             self.hand.read(("bob", "ann", number, names, lines))
         # Were the two one by an earlier letter, what is told there would be "it".
         for number in (1, 2):
@@ -262,7 +275,8 @@ class Refused(unittest.TestCase):
             # By letter 1 both are one; for the third that is big, what is old is still the least that tells them.
             letter = ("bob", "ann", 1, (("ann", 1),), ((("big",), ()),))
             self.assertEqual(self.refused(NoLetter, "read", letter).wrong, ("lesser", 2, k))
-            self.assertEqual(hand.read(("bob", "ann", 1, (("ann", 1),), ((("red",), ("tall",)), (("wet",), ())))), [0, 2])
+            self.assertEqual(hand.read(("bob", "ann", 1, (("ann", 1),), ((("red",), ("tall",)), (("wet",), ())))),
+                             [0, 2])
 
     def test_a_letter_that_is_refused_may_come_as_it_was_written(self):
         self.refused(NoLetter, "read", ("bob", "ann", 1, (("ann", 1),), ((("wet",), ()),)))
@@ -314,7 +328,8 @@ class Kept(unittest.TestCase):
         self.assertEqual(hand.kept("bob"), 1)
         self.assertEqual(hand.write("bob", ((0, ()), (1, ()), (2, ("big", "wet"))))[4],
                          ((("big",), ()), (("old",), ()), (None, ("big", "wet"))))
-        self.assertEqual(hand.read(("bob", "ann", 2, (("ann", 1), ("ann", 2)), ((("wet",), ()), (("red",), ()), (("old",), ())))),
+        self.assertEqual(hand.read(("bob", "ann", 2, (("ann", 1), ("ann", 2)),
+                                    ((("wet",), ()), (("red",), ()), (("old",), ())))),
                          [2, 0, 1])
         self.assertEqual(hand.kept("bob"), 1)
         self.assertEqual(hand.ground("bob"), [(("big", "red"), 0), (("big", "wet"), 2), (("old",), 1)])

@@ -15,24 +15,30 @@ from saidground.views import view_of
 INTERFACE = {
     saidground.views: {
         "view_of": ["history", "hand"], "least_history": ["hands", "view"], "view_wrong": ["hands", "thing"],
-        "parted": ["hands", "one", "other"], "leading": ["history", "hand"], "leading_wrong": ["history", "hand", "thing"]},
+        "parted": ["hands", "one", "other"], "leading": ["history", "hand"],
+        "leading_wrong": ["history", "hand", "thing"]},
     saidground.sayings: {
         "holds": ["history", "saying"], "known": ["hands", "view", "saying"], "since": ["hands", "view", "saying"],
         "deepest": ["hands", "view", "saying", "others"]},
     saidground.papers: {"paper_of": ["hands", "view", "saying"], "paper_wrong": ["hands", "view", "saying", "thing"]}}
-METHODS = {"see": ["words"], "look": ["card", "words"], "one": ["card", "other"], "write": ["to", "lines"], "read": ["letter"],
+METHODS = {"see": ["words"], "look": ["card", "words"], "one": ["card", "other"], "write": ["to", "lines"],
+           "read": ["letter"],
            "file": [], "ground": ["other"], "kept": ["other"], "copy": []}
 
 HANDS = ("ann", "bob")
-HISTORY = read_history(["hands ann bob", "see ann 0 red", "write ann bob : 0 red", "read bob ann 1", "write bob ann : 0",
+HISTORY = read_history(["hands ann bob", "see ann 0 red", "write ann bob : 0 red", "read bob ann 1",
+                        "write bob ann : 0",
                         "read ann bob 1"])
 VIEW = view_of(HISTORY, "ann")
 SAYING = ("one", ("ann", "bob", 1, 0), ("bob", "ann", 1, 0))
 UNKNOWN = ("read", "bob", "ann", 9)
 CALLS = (("view_of", (HISTORY, "bob")), ("least_history", (HANDS, VIEW)), ("view_wrong", (HANDS, ["ann", []])),
-         ("view_wrong", (HANDS, ("ann", [("see", ["red"])]))), ("parted", (HANDS, VIEW, ("ann", ()))), ("leading", (HISTORY, "ann")),
-         ("leading_wrong", (HISTORY, "ann", ([0], [["bob", 0, 0]]))), ("holds", (HISTORY, SAYING)), ("known", (HANDS, VIEW, SAYING)),
-         ("since", (HANDS, VIEW, SAYING)), ("deepest", (HANDS, VIEW, SAYING, ("bob", "ann"))), ("paper_of", (HANDS, VIEW, SAYING)),
+         ("view_wrong", (HANDS, ("ann", [("see", ["red"])]))), ("parted", (HANDS, VIEW, ("ann", ()))),
+         ("leading", (HISTORY, "ann")),
+         ("leading_wrong", (HISTORY, "ann", ([0], [["bob", 0, 0]]))), ("holds", (HISTORY, SAYING)),
+         ("known", (HANDS, VIEW, SAYING)),
+         ("since", (HANDS, VIEW, SAYING)), ("deepest", (HANDS, VIEW, SAYING, ("bob", "ann"))),
+         ("paper_of", (HANDS, VIEW, SAYING)),
          ("paper_of", (HANDS, VIEW, UNKNOWN)), ("paper_wrong", (HANDS, VIEW, SAYING, ("yes", ("joins", [[]])))),
          ("paper_wrong", (HANDS, VIEW, UNKNOWN, ("no", [["ann", "bob"], []]))))
 
@@ -105,7 +111,8 @@ class Hands(unittest.TestCase):
                  for name, arguments in functions.items() if arguments[0] == "hands"]
         self.assertEqual(len(calls), 8)
         for name, rest in calls:
-            for bad in (None, True, 5, "ann", (), ("ann",), ["ann", "bob"], ("bob", "ann"), ("ann", "ann"), ("ann", 5), ("ann", "Bob"),
+            for bad in (None, True, 5, "ann", (), ("ann",), ["ann", "bob"], ("bob", "ann"), ("ann", "ann"), ("ann", 5),
+                        ("ann", "Bob"),
                         ("a", "b", "c", "d", "e", "f"), ("ann", "toolongaa"), (("ann",), "bob")):
                 with self.assertRaises(NoHands) as caught:
                     function(name)(bad, *rest)

@@ -14,8 +14,10 @@ def of(*rows):
 
 
 # Ann's least history has her things 0 (red), 1 (old) and 2 (wet), and bob's cards 0, 1 and 2 of them.
-ROWS = ("see cy 4 old red tall wet", "see ann 5 red", "see ann 7 old", "write ann bob : 0 red : 1 old", "read bob ann 1",
-        "see bob 5 red tall", "see bob 9 wet", "write bob ann : 3 wet : 0", "see bob 5", "see bob 9 wet", "read ann bob 1")
+ROWS = ("see cy 4 old red tall wet", "see ann 5 red", "see ann 7 old", "write ann bob : 0 red : 1 old",
+        "read bob ann 1",
+        "see bob 5 red tall", "see bob 9 wet", "write bob ann : 3 wet : 0", "see bob 5", "see bob 9 wet",
+        "read ann bob 1")
 HISTORY = of(*ROWS)
 THINGS = (5, 7, 9)
 CARDS = (("bob", 0, 0), ("bob", 1, 1), ("bob", 2, 3))
@@ -42,7 +44,8 @@ class Leading(unittest.TestCase):
 
     def test_cards_of_several_hands_by_hands_and_numbers(self):
         history = of("see cy 1 red", "see bob 2 old", "see cy 3", "write cy ann : 1 : 0 red", "read ann cy 1",
-                     "write bob ann : 0 old", "read ann bob 1", "write ann bob : 1 red", "read bob ann 1", "write bob ann : 1",
+                     "write bob ann : 0 old", "read ann bob 1", "write ann bob : 1 red", "read bob ann 1",
+                     "write bob ann : 1",
                      "read ann bob 2")
         self.assertEqual(leading(history, "ann"),
                          ((3, 1, 2), (("bob", 0, 0), ("bob", 1, 1), ("cy", 0, 1), ("cy", 1, 0))))
@@ -190,8 +193,10 @@ class Wrong(unittest.TestCase):
     def test_slots_by_hands_and_rising(self):
         self.assertEqual(wrong(cards=put(CARDS, 0, ("bob", 0, 2))), ("slot", "bob", ("ann", "bob", 1, 0)))
         self.assertEqual(wrong(cards=put(CARDS, 2, ("bob", 2, 5))), ("slot", "bob", ("bob", "ann", 1, 0)))
-        self.assertEqual(wrong(cards=(("bob", 0, 2), ("bob", 1, 1), ("bob", 2, 5))), ("slot", "bob", ("ann", "bob", 1, 0)))
-        rows = ("see cy 1", "see cy 1", "see bob 2", "see bob 2", "write bob ann : 0", "write cy ann : 0", "read ann cy 1",
+        self.assertEqual(wrong(cards=(("bob", 0, 2), ("bob", 1, 1), ("bob", 2, 5))),
+                         ("slot", "bob", ("ann", "bob", 1, 0)))
+        rows = ("see cy 1", "see cy 1", "see bob 2", "see bob 2", "write bob ann : 0", "write cy ann : 0",
+                "read ann cy 1",
                 "read ann bob 1")
         for first, second, told in ((0, 0, None), (1, 0, ("slot", "bob", ("bob", "ann", 1, 0))),
                                     (0, 1, ("slot", "cy", ("cy", "ann", 1, 0))),

@@ -23,7 +23,8 @@ ROWS = ("see ann 0 red",                    # 0: card 0
         "write ann bob : 0 red : 1",        # 2
         "write ann bob : 0",                # 3
         "read bob ann 1", "read bob ann 2", "one bob 0 2", "look bob 0 wet", "look bob 1 big",
-        "write bob ann : 0 wet : 1 big", "write cy bob", "write cy bob", "read bob cy 2", "write bob ann : 0", "write bob ann",
+        "write bob ann : 0 wet : 1 big", "write cy bob", "write cy bob", "read bob cy 2", "write bob ann : 0",
+        "write bob ann",
         "read ann bob 2",                   # 4: card 2, or a description
         "read ann bob 1",                   # 5
         "read ann bob 1",                   # 6
@@ -44,19 +45,23 @@ class Papers(unittest.TestCase):
         self.assertIsNone(paper_wrong(HANDS, view, saying, ("yes", showing)))
 
     def test_the_view(self):
-        self.assertEqual([entry[0] for entry in VIEW[1]], ["see", "see", "write", "write", "read", "read", "read", "see", "look",
+        self.assertEqual([entry[0] for entry in VIEW[1]], ["see", "see", "write", "write", "read", "read", "read",
+                                                           "see", "look",
                                                            "one", "one", "write"])
         self.assertEqual(VIEW[1][4][2:], (2, (("ann", 1), ("ann", 2), ("cy", 2)), ((("red",), ()),)))
         self.assertEqual(VIEW[1][5][2:], (1, (("ann", 1), ("ann", 2)), ((("red",), ("wet",)), (None, ("big",)))))
 
     def test_wrote(self):
-        for writer, reader, number, k in (("ann", "bob", 1, 2), ("ann", "bob", 2, 3), ("ann", "bob", 3, 11), ("bob", "ann", 1, 4),
+        for writer, reader, number, k in (("ann", "bob", 1, 2), ("ann", "bob", 2, 3), ("ann", "bob", 3, 11),
+                                          ("bob", "ann", 1, 4),
                                           ("bob", "ann", 2, 4), ("cy", "bob", 1, 4), ("cy", "bob", 2, 4)):
             self.check(("wrote", writer, reader, number), ("entry", k))
-        self.check(("wrote", "bob", "ann", 1), ("entry", 0), ("ann", (("read", "bob", 2, (), ()), ("read", "bob", 1, (), ()))))
+        self.check(("wrote", "bob", "ann", 1), ("entry", 0), ("ann",
+                                                              (("read", "bob", 2, (), ()), ("read", "bob", 1, (), ()))))
 
     def test_read(self):
-        for writer, reader, number, k in (("bob", "ann", 1, 5), ("bob", "ann", 2, 4), ("ann", "bob", 1, 4), ("ann", "bob", 2, 4),
+        for writer, reader, number, k in (("bob", "ann", 1, 5), ("bob", "ann", 2, 4), ("ann", "bob", 1, 4),
+                                          ("ann", "bob", 2, 4),
                                           ("cy", "bob", 2, 4)):
             self.check(("read", writer, reader, number), ("entry", k))
 
@@ -135,7 +140,8 @@ class Papers(unittest.TestCase):
 
     def test_the_first_spot_by_all_reasons_though_it_needs_more(self):
         # Card 1 tells the word first, but is one with the line by the last entry alone.
-        view = ("ann", (("see", ()), ("see", ("red",)), ("write", "bob", ((0, ()),)), ("look", 0, ("red",)), ("one", 1, 0)))
+        view = ("ann", (("see", ()), ("see", ("red",)), ("write", "bob", ((0, ()),)), ("look", 0, ("red",)),
+                        ("one", 1, 0)))
         self.check(("word", RED, "red"), ("joins", (4,), 1), view)
 
     def test_of_spots_of_one_letter_the_first_line(self):
@@ -164,7 +170,8 @@ class Wrong(unittest.TestCase):
     def test_form(self):
         for saying in (("wrote", "ann", "bob", 1), ("wrote", "cy", "bob", 9)):
             for bad in (None, True, 5, "yes", (), ("yes",), ("no",), ["yes", ("entry", 2)], ("yes", ("entry", 2), ()),
-                        ("no", HISTORY, ()), ("maybe", ("entry", 2)), (None, ()), (True, ()), (0, ()), (["yes"], ()), (("no",), ())):
+                        ("no", HISTORY, ()), ("maybe", ("entry", 2)), (None, ()), (True, ()), (0, ()), (["yes"], ()),
+                        (("no",), ())):
                 self.assertEqual(paper_wrong(HANDS, VIEW, saying, bad), ("form",), bad)
 
     def test_no_history(self):
@@ -179,13 +186,15 @@ class Wrong(unittest.TestCase):
         for rows in ((), ROWS[:-1], ROWS + ("see ann 9",), ("see ann 0 red wet",) + ROWS[1:]):
             self.assertEqual(paper_wrong(HANDS, VIEW, saying, ("no", of(*rows))), ("view",))
             self.assertEqual(paper_wrong(HANDS, VIEW, ("wrote", "ann", "bob", 1), ("no", of())), ("view",))
-        self.assertIsNone(paper_wrong(HANDS, VIEW, saying, ("no", of(*ROWS, "see bob 9", "write cy ann", "write bob cy"))))
+        self.assertIsNone(paper_wrong(HANDS, VIEW, saying, ("no",
+                                                            of(*ROWS, "see bob 9", "write cy ann", "write bob cy"))))
 
     def test_no_where_it_holds(self):
         saying = ("wrote", "cy", "bob", 3)
         self.assertIsNone(paper_wrong(HANDS, VIEW, saying, ("no", HISTORY)))
         self.assertEqual(paper_wrong(HANDS, VIEW, saying, ("no", of(*ROWS, "write cy bob"))), ("holds",))
-        self.assertEqual(paper_wrong(HANDS, VIEW, ("read", "ann", "bob", 3), ("no", of(*ROWS, "read bob ann 3"))), ("holds",))
+        self.assertEqual(paper_wrong(HANDS, VIEW, ("read", "ann", "bob", 3), ("no", of(*ROWS, "read bob ann 3"))),
+                         ("holds",))
         self.assertEqual(paper_wrong(HANDS, VIEW, ("wrote", "ann", "bob", 1), ("no", HISTORY)), ("holds",))
         self.assertEqual(paper_wrong(HANDS, VIEW, ("word", RED, "wet"), ("no", least_history(HANDS, VIEW))), ("holds",))
         # Bob knows more there than in ann's least history.
@@ -197,17 +206,21 @@ class Wrong(unittest.TestCase):
 
     def test_parts_of_letters(self):
         for saying in (("wrote", "ann", "bob", 1), ("read", "ann", "bob", 1)):
-            for bad in (None, 5, True, "entry", (), ("entry",), ("entry", 4, 4), ["entry", 4], ("entries", 4), (4, "entry"),
-                        ("entry", -1), ("entry", True), ("entry", None), ("entry", "4"), ("entry", (4,)), ("entry", [4]),
+            for bad in (None, 5, True, "entry", (), ("entry",), ("entry", 4, 4), ["entry", 4], ("entries", 4),
+                        (4, "entry"),
+                        ("entry", -1), ("entry", True), ("entry", None), ("entry", "4"), ("entry", (4,)),
+                        ("entry", [4]),
                         ("joins", ()), (None, 4), (["entry"], 4)):
                 self.assertEqual(self.yes(saying, bad), ("part", ()), bad)
                 self.assertEqual(self.yes(("knows", "ann", saying), bad), ("part", (2,)), bad)
 
     def test_parts_of_lines(self):
-        for bad in (None, 5, True, "joins", (), ("joins",), ("joins", (), ()), ["joins", ()], ("join", ()), ("joins", []),
+        for bad in (None, 5, True, "joins", (), ("joins",), ("joins", (), ()), ["joins", ()], ("join", ()),
+                    ("joins", []),
                     ("joins", None), ("joins", 5), ("joins", "5"), ("entry", 4), (None, ()), ((), "joins")):
             self.assertEqual(self.yes(("one", RED, WET), bad), ("part", ()), bad)
-        for bad in (None, 5, True, "joins", (), ("joins",), ("joins", ()), ("joins", (), 0, 0), ["joins", (), 0], ("joins", [], 0),
+        for bad in (None, 5, True, "joins", (), ("joins",), ("joins", ()), ("joins", (), 0, 0), ["joins", (), 0],
+                    ("joins", [], 0),
                     ("joins", None, 0), ("joins", 0, ()), ("entry", (), 0), ((), (), 0)):
             self.assertEqual(self.yes(("word", RED, "red"), bad), ("part", ()), bad)
 
@@ -215,7 +228,8 @@ class Wrong(unittest.TestCase):
         part, good = ("wrote", "ann", "bob", 1), ("entry", 2)
         for bad in (None, 5, True, "gg", (), (good,), (good, good, good), [good, good]):
             self.assertEqual(self.yes(("both", part, part), bad), ("part", ()), bad)
-        for bad in (None, 5, True, "0g", (), (0,), (0, good, good), [0, good], (2, good), (-1, good), (True, good), (False, good),
+        for bad in (None, 5, True, "0g", (), (0,), (0, good, good), [0, good], (2, good), (-1, good), (True, good),
+                    (False, good),
                     (None, good), ("0", good), (good, 0)):
             self.assertEqual(self.yes(("either", part, part), bad), ("part", ()), bad)
         self.assertIsNone(self.yes(("either", part, part), (1, good)))
@@ -233,7 +247,8 @@ class Wrong(unittest.TestCase):
         self.assertEqual(self.yes(("both", both, part), ((good, (good, bad)), 5)), ("entry", (1, 2, 2)))
         self.assertEqual(self.yes(("either", part, both), (1, (good, (good, bad)))), ("entry", (2, 2, 2)))
         self.assertEqual(self.yes(("either", both, part), (0, (good, (bad, good)))), ("entry", (1, 2, 1)))
-        self.assertEqual(self.yes(("knows", "ann", ("knows", "ann", both)), (good, (bad, good))), ("entry", (2, 2, 2, 1)))
+        self.assertEqual(self.yes(("knows", "ann", ("knows", "ann", both)), (good, (bad, good))),
+                         ("entry", (2, 2, 2, 1)))
         self.assertEqual(self.yes(("knows", "bob", ("either", part, part)), (0, 5)), ("part", (2, 1)))
 
     def entries(self, saying, view=VIEW):
@@ -247,35 +262,48 @@ class Wrong(unittest.TestCase):
         return found
 
     def test_entries(self):
-        for saying, told in ((("wrote", "ann", "bob", 1), [2, 3, 4, 5, 6, 11]), (("wrote", "ann", "bob", 2), [3, 4, 5, 6, 11]),
+        for saying, told in ((("wrote", "ann", "bob", 1), [2, 3, 4, 5, 6, 11]),
+                             (("wrote", "ann", "bob", 2), [3, 4, 5, 6, 11]),
                              (("wrote", "ann", "bob", 3), [11]), (("wrote", "ann", "bob", 4), []),
                              (("wrote", "bob", "ann", 1), [4, 5, 6]), (("wrote", "bob", "ann", 2), [4]),
-                             (("wrote", "bob", "ann", 3), []), (("wrote", "cy", "bob", 1), [4]), (("wrote", "cy", "bob", 2), [4]),
-                             (("wrote", "cy", "bob", 3), []), (("wrote", "bob", "cy", 1), []), (("wrote", "ann", "ann", 1), []),
+                             (("wrote", "bob", "ann", 3), []), (("wrote", "cy", "bob", 1), [4]),
+                             (("wrote", "cy", "bob", 2), [4]),
+                             (("wrote", "cy", "bob", 3), []), (("wrote", "bob", "cy", 1), []),
+                             (("wrote", "ann", "ann", 1), []),
                              (("wrote", "ann", "cy", 1), []), (("wrote", "bob", "bob", 1), []),
                              (("read", "ann", "bob", 1), [4, 5, 6]), (("read", "ann", "bob", 2), [4, 5, 6]),
-                             (("read", "ann", "bob", 3), []), (("read", "bob", "ann", 1), [5, 6]), (("read", "bob", "ann", 2), [4]),
-                             (("read", "cy", "bob", 1), []), (("read", "cy", "bob", 2), [4]), (("read", "cy", "ann", 2), []),
+                             (("read", "ann", "bob", 3), []), (("read", "bob", "ann", 1), [5, 6]),
+                             (("read", "bob", "ann", 2), [4]),
+                             (("read", "cy", "bob", 1), []), (("read", "cy", "bob", 2), [4]),
+                             (("read", "cy", "ann", 2), []),
                              (("read", "ann", "ann", 1), [])):
             self.assertEqual(self.entries(saying), told, saying)
 
     def test_entries_of_letters_to_other_hands(self):
         view = ("ann", (("write", "cy", ()), ("read", "cy", 1, (("ann", 1), ("bob", 2)), ()), ("write", "bob", ())))
-        for saying, told in ((("wrote", "ann", "cy", 1), [0, 1]), (("wrote", "ann", "bob", 1), [2]), (("wrote", "bob", "cy", 1), [1]),
-                             (("read", "ann", "cy", 1), [1]), (("read", "bob", "cy", 2), [1]), (("read", "bob", "cy", 1), []),
+        for saying, told in ((("wrote", "ann", "cy", 1), [0, 1]), (("wrote", "ann", "bob", 1), [2]),
+                             (("wrote", "bob", "cy", 1), [1]),
+                             (("read", "ann", "cy", 1), [1]), (("read", "bob", "cy", 2), [1]),
+                             (("read", "bob", "cy", 1), []),
                              (("read", "ann", "bob", 1), [])):
             self.assertEqual(self.entries(saying, view), told, saying)
 
     def test_reasons(self):
         saying = ("one", RED, WET)
-        for good in (((5, 0),), ((6, 0),), ((5, 0), (6, 0)), ((4, 0), (5, 0)), (9, ), ((4, 0), (5, 0), (6, 0), 9, 10), ()):
-            self.assertEqual(self.yes(saying, ("joins", good)), None if {(5, 0), (6, 0)} & {*good} else ("joins", ()), good)
-        for bad in ((5,), (0,), (2,), (4,), (12,), (99,), ((5, 1),), ((5, 2),), ((9, 0),), ((2, 0),), ((12, 0),), (True,), (None,),
-                    ("9",), ((5,),), ((5, 0, 0),), ([5, 0],), ((5, False),), ((True, 0),), (-3,), ((-7, 0),), ((5, -2),), (((5, 0),),),
-                    ((5, 0), (5, 0)), ((6, 0), (5, 0)), (9, (5, 0)), (10, 9), (9, 9), ((5, 0), 9, (6, 0)), ((5, 0), None), ([],), ({},)):
+        for good in (((5, 0),), ((6, 0),), ((5, 0), (6, 0)), ((4, 0), (5, 0)), (9, ), ((4, 0), (5, 0), (6, 0), 9, 10),
+                     ()):
+            self.assertEqual(self.yes(saying, ("joins", good)), None if {(5, 0), (6, 0)} & {*good} else ("joins", ()),
+                             good)
+        for bad in ((5,), (0,), (2,), (4,), (12,), (99,), ((5, 1),), ((5, 2),), ((9, 0),), ((2, 0),), ((12, 0),),
+                    (True,), (None,),
+                    ("9",), ((5,),), ((5, 0, 0),), ([5, 0],), ((5, False),), ((True, 0),), (-3,), ((-7, 0),),
+                    ((5, -2),), (((5, 0),),),
+                    ((5, 0), (5, 0)), ((6, 0), (5, 0)), (9, (5, 0)), (10, 9), (9, 9), ((5, 0), 9, (6, 0)),
+                    ((5, 0), None), ([],), ({},)):
             self.assertEqual(self.yes(saying, ("joins", bad)), ("reasons", ()), bad)
             self.assertEqual(self.yes(("word", RED, "red"), ("joins", bad, 0)), ("reasons", ()), bad)
-            self.assertEqual(self.yes(("knows", "ann", ("one", RED, ("ann", "bob", 9, 9))), ("joins", bad)), ("reasons", (2,)), bad)
+            self.assertEqual(self.yes(("knows", "ann", ("one", RED, ("ann", "bob", 9, 9))), ("joins", bad)),
+                             ("reasons", (2,)), bad)
 
     def test_true_is_no_one(self):
         view = ("ann", (("see", ()), ("one", 0, 0), ("write", "bob", ((0, ()),))))
@@ -292,13 +320,18 @@ class Wrong(unittest.TestCase):
 
     def test_spots(self):
         saying = ("word", RED, "red")
-        for spot, told in ((0, None), (7, ("joins", ())), (8, ("joins", ())), (1, ("spot", ())), (2, ("spot", ())), (4, ("spot", ())),
-                           (9, ("spot", ())), (12, ("spot", ())), (-12, ("spot", ())), ((5, 0), ("spot", ())), ((4, 0), ("spot", ())),
-                           ((0, 0), ("spot", ())), ((2, 0), ("spot", ())), ((12, 0), ("spot", ())), (None, ("spot", ())),
-                           (False, ("spot", ())), ("0", ("spot", ())), ((0,), ("spot", ())), ([0], ("spot", ())), ((), ("spot", ())),
+        for spot, told in ((0, None), (7, ("joins", ())), (8, ("joins", ())), (1, ("spot", ())), (2, ("spot", ())),
+                           (4, ("spot", ())),
+                           (9, ("spot", ())), (12, ("spot", ())), (-12, ("spot", ())), ((5, 0), ("spot", ())),
+                           ((4, 0), ("spot", ())),
+                           ((0, 0), ("spot", ())), ((2, 0), ("spot", ())), ((12, 0), ("spot", ())),
+                           (None, ("spot", ())),
+                           (False, ("spot", ())), ("0", ("spot", ())), ((0,), ("spot", ())), ([0], ("spot", ())),
+                           ((), ("spot", ())),
                            ([5, 0], ("spot", ()))):
             self.assertEqual(self.yes(saying, ("joins", (), spot)), told, spot)
-        for spot, told in (((5, 0), None), ((6, 0), None), ((5, 1), ("spot", ())), ((5, 2), ("spot", ())), ((5, -2), ("spot", ())),
+        for spot, told in (((5, 0), None), ((6, 0), None), ((5, 1), ("spot", ())), ((5, 2), ("spot", ())),
+                           ((5, -2), ("spot", ())),
                            ((4, 0), ("spot", ())), (5, ("spot", ()))):
             self.assertEqual(self.yes(("word", WET, "wet"), ("joins", (), spot)), told, spot)
             self.assertEqual(self.yes(("word", OLD, "wet"), ("joins", (), spot)), told or ("joins", ()), spot)
@@ -309,8 +342,10 @@ class Wrong(unittest.TestCase):
 
     def test_joins(self):
         for saying in (("one", RED, OLD), ("one", RED, ("ann", "bob", 1, 2)), ("one", ("ann", "bob", 4, 0), RED),
-                       ("one", ("bob", "cy", 1, 0), ("bob", "cy", 1, 0)), ("one", BIG, OLD), ("one", ("bob", "ann", 1, 2), RED),
-                       ("one", ("bob", "ann", 3, 0), ("bob", "ann", 3, 0)), ("one", ("ann", "ann", 1, 0), ("ann", "ann", 1, 0))):
+                       ("one", ("bob", "cy", 1, 0), ("bob", "cy", 1, 0)), ("one", BIG, OLD),
+                       ("one", ("bob", "ann", 1, 2), RED),
+                       ("one", ("bob", "ann", 3, 0), ("bob", "ann", 3, 0)),
+                       ("one", ("ann", "ann", 1, 0), ("ann", "ann", 1, 0))):
             self.assertEqual(self.yes(saying, ("joins", ())), ("joins", ()), saying)
             self.assertEqual(self.yes(saying, ("joins", ((4, 0), (5, 0), (6, 0), 9, 10))), ("joins", ()), saying)
         self.assertEqual(self.yes(("one", RED, WET), ("joins", ())), ("joins", ()))
@@ -391,7 +426,8 @@ def slow_showing(hands, view, saying):
         return side, slow_showing(hands, view, rest[side])
     if kind in ("wrote", "read"):
         # The first beginning of the view in which it holds ends with the first entry that does.
-        return "entry", [slow_holds(Least(hands, (hand, entries[:k + 1])), saying) for k in range(len(entries))].index(True)
+        return "entry", [slow_holds(Least(hands, (hand, entries[:k + 1])),
+                                    saying) for k in range(len(entries))].index(True)
     reasons = SlowReasons(hands, view)
     node = reasons.node(rest[0])
     if kind == "one":

@@ -19,7 +19,8 @@ def of(*rows):
 
 # Ann tells bob of a red thing twice, and of an old one; bob answers of both, and ann reads that.
 ROWS = ("see ann 0 red", "see ann 1 old", "write ann bob : 0 red : 1", "write ann bob : 0", "write ann bob",
-        "read bob ann 2", "read bob ann 1", "see bob 0 wet", "one bob 0 3", "one bob 1 0", "write bob ann : 1 red wet : 2",
+        "read bob ann 2", "read bob ann 1", "see bob 0 wet", "one bob 0 3", "one bob 1 0",
+        "write bob ann : 1 red wet : 2",
         "write bob cy : 2", "read ann bob 1", "write ann bob : 0")
 HISTORY = of(*ROWS)
 RED, OLD, AGAIN, LAST = ("ann", "bob", 1, 0), ("ann", "bob", 1, 1), ("ann", "bob", 2, 0), ("ann", "bob", 4, 0)
@@ -40,7 +41,8 @@ class Holds(unittest.TestCase):
 
     def test_read(self):
         self.check([("read", "ann", "bob", 1), ("read", "ann", "bob", 2), ("read", "bob", "ann", 1)],
-                   [("read", "ann", "bob", 3), ("read", "ann", "bob", 4), ("read", "bob", "cy", 1), ("read", "bob", "ann", 2),
+                   [("read", "ann", "bob", 3), ("read", "ann", "bob", 4), ("read", "bob", "cy", 1),
+                    ("read", "bob", "ann", 2),
                     ("read", "bob", "bob", 1), ("read", "ann", "bob", 10 ** 30)])
 
     def test_one(self):
@@ -48,13 +50,15 @@ class Holds(unittest.TestCase):
         self.check([("one", first, second) for lot in lots for first in lot for second in lot],
                    [("one", first, second) for first in lots[0] for second in lots[1]] +
                    [("one", RED, ("ann", "bob", 1, 2)), ("one", ("ann", "bob", 5, 0), RED),
-                    ("one", ("ann", "bob", 3, 0), ("ann", "bob", 3, 0)), ("one", ("ann", "ann", 1, 0), ("ann", "ann", 1, 0)),
+                    ("one", ("ann", "bob", 3, 0), ("ann", "bob", 3, 0)),
+                    ("one", ("ann", "ann", 1, 0), ("ann", "ann", 1, 0)),
                     ("one", RED, ("bob", "bob", 1, 0)), ("one", RED, ("ann", "bob", 10 ** 30, 10 ** 30))])
 
     def test_word(self):
         self.check([("word", slot, word) for slot in (RED, AGAIN, LAST, ANSWER) for word in ("red", "wet")] +
                    [("word", slot, "old") for slot in (OLD, NEW, THIRD)],
-                   [("word", OLD, "red"), ("word", RED, "old"), ("word", RED, "tall"), ("word", ("ann", "bob", 3, 0), "red"),
+                   [("word", OLD, "red"), ("word", RED, "old"), ("word", RED, "tall"),
+                    ("word", ("ann", "bob", 3, 0), "red"),
                     ("word", ("ann", "bob", 1, 2), "red"), ("word", ("cy", "ann", 1, 0), "red"),
                     ("word", ("ann", "ann", 1, 0), "red")])
 
@@ -65,14 +69,16 @@ class Holds(unittest.TestCase):
 
     def test_knows(self):
         self.check([("knows", "ann", ("read", "ann", "bob", 1)), ("knows", "bob", ("wrote", "ann", "bob", 2)),
-                    ("knows", "ann", ("wrote", "ann", "bob", 3)), ("knows", "ann", ("knows", "bob", ("word", RED, "red"))),
+                    ("knows", "ann", ("wrote", "ann", "bob", 3)),
+                    ("knows", "ann", ("knows", "bob", ("word", RED, "red"))),
                     ("knows", "bob", ("one", AGAIN, RED)), ("knows", "bob", ("one", OLD, NEW)),
                     ("knows", "ann", ("one", RED, LAST)), ("knows", "ann", ("knows", "bob", ("word", RED, "wet"))),
                     ("knows", "ann", ("knows", "ann", ("wrote", "ann", "bob", 4)))],
                    [("knows", "cy", ("wrote", "ann", "bob", 1)), ("knows", "cy", ("wrote", "bob", "cy", 1)),
                     ("knows", "bob", ("wrote", "ann", "bob", 3)), ("knows", "bob", ("read", "bob", "ann", 1)),
                     ("knows", "bob", ("word", OLD, "old")), ("knows", "ann", ("one", OLD, NEW)),
-                    ("knows", "ann", ("knows", "bob", ("one", RED, AGAIN))), ("knows", "ann", ("knows", "bob", ("wrote", "ann", "bob", 3))),
+                    ("knows", "ann", ("knows", "bob", ("one", RED, AGAIN))),
+                    ("knows", "ann", ("knows", "bob", ("wrote", "ann", "bob", 3))),
                     ("knows", "ann", ("wrote", "bob", "cy", 1)), ("knows", "ann", ("read", "ann", "bob", 3))])
 
     def test_holds_though_nobody_knows(self):
@@ -95,8 +101,10 @@ class Known(unittest.TestCase):
         for hand in HANDS:
             view = view_of(HISTORY, hand)
             least = least_history(HANDS, view)
-            for saying in (("wrote", "ann", "bob", 3), ("read", "ann", "bob", 1), ("word", RED, "red"), ("one", RED, AGAIN),
-                           ("one", ANSWER, AGAIN), ("word", ANSWER, "wet"), ("one", OLD, NEW), ("knows", "bob", ("one", RED, AGAIN))):
+            for saying in (("wrote", "ann", "bob", 3), ("read", "ann", "bob", 1), ("word", RED, "red"),
+                           ("one", RED, AGAIN),
+                           ("one", ANSWER, AGAIN), ("word", ANSWER, "wet"), ("one", OLD, NEW),
+                           ("knows", "bob", ("one", RED, AGAIN))):
                 self.assertIs(known(HANDS, view, saying), holds(least, saying))
                 self.assertIs(known(HANDS, view, saying), holds(HISTORY, ("knows", hand, saying)))
 
@@ -146,7 +154,8 @@ class Refused(unittest.TestCase):
     def path(self, saying):
         paths = []
         for call in (lambda: holds(HISTORY, saying), lambda: known(HANDS, ("ann", ()), saying),
-                     lambda: since(HANDS, ("ann", ()), saying), lambda: deepest(HANDS, ("ann", ()), saying, "no hands")):
+                     lambda: since(HANDS, ("ann", ()), saying),
+                     lambda: deepest(HANDS, ("ann", ()), saying, "no hands")):
             with self.assertRaises(NoSaying, msg=saying) as caught:
                 call()
             paths.append(caught.exception.wrong)
@@ -154,9 +163,12 @@ class Refused(unittest.TestCase):
         return paths[0]
 
     def test_no_part(self):
-        for bad in (None, True, 5, "wrote", (), ("wrote",), list(GOOD), ("written", "ann", "bob", 1), (None, "ann", "bob", 1),
-                    (["wrote"], "ann", "bob", 1), ("wrote", "ann", "bob"), GOOD + (1,), ("read", "ann", "bob"), ("one", RED),
-                    ("one", RED, RED, RED), ("word", RED), ("word", RED, "red", "red"), ("both", GOOD), ("both", GOOD, GOOD, GOOD),
+        for bad in (None, True, 5, "wrote", (), ("wrote",), list(GOOD), ("written", "ann", "bob", 1),
+                    (None, "ann", "bob", 1),
+                    (["wrote"], "ann", "bob", 1), ("wrote", "ann", "bob"), GOOD + (1,), ("read", "ann", "bob"),
+                    ("one", RED),
+                    ("one", RED, RED, RED), ("word", RED), ("word", RED, "red", "red"), ("both", GOOD),
+                    ("both", GOOD, GOOD, GOOD),
                     ("either", GOOD), ("either", GOOD, GOOD, GOOD), ("knows", "ann"), ("knows", "ann", GOOD, GOOD),
                     ("not", GOOD), ("", GOOD, GOOD), (5, GOOD, GOOD), ("wrote", GOOD, GOOD), ("both", "ann", "bob", 1)):
             self.assertEqual(self.path(bad), (), bad)
@@ -166,8 +178,10 @@ class Refused(unittest.TestCase):
 
     def test_hands(self):
         for bad in ("dan", "", None, True, 5, ["ann"], ("ann",)):
-            for saying in (("wrote", bad, "bob", 1), ("wrote", "ann", bad, 1), ("read", bad, "bob", 1), ("read", "ann", bad, 1),
-                           ("one", (bad, "bob", 1, 0), RED), ("one", RED, ("ann", bad, 1, 0)), ("word", (bad, "bob", 1, 0), "red"),
+            for saying in (("wrote", bad, "bob", 1), ("wrote", "ann", bad, 1), ("read", bad, "bob", 1),
+                           ("read", "ann", bad, 1),
+                           ("one", (bad, "bob", 1, 0), RED), ("one", RED, ("ann", bad, 1, 0)),
+                           ("word", (bad, "bob", 1, 0), "red"),
                            ("word", ("ann", bad, 1, 0), "red"), ("knows", bad, GOOD)):
                 self.assertEqual(self.path(saying), (), saying)
         with self.assertRaises(NoSaying):
@@ -175,7 +189,8 @@ class Refused(unittest.TestCase):
 
     def test_numbers(self):
         for bad in (0, -1, True, False, None, "1", (1,), [1]):
-            for saying in (("wrote", "ann", "bob", bad), ("read", "ann", "bob", bad), ("one", ("ann", "bob", bad, 0), RED),
+            for saying in (("wrote", "ann", "bob", bad), ("read", "ann", "bob", bad),
+                           ("one", ("ann", "bob", bad, 0), RED),
                            ("one", RED, ("ann", "bob", bad, 0)), ("word", ("ann", "bob", bad, 0), "red")):
                 self.assertEqual(self.path(saying), (), saying)
         for bad in (-1, True, False, None, "0", (0,), [0]):
@@ -247,10 +262,12 @@ class Since(unittest.TestCase):
     VIEW = view_of(HISTORY, "ann")
 
     def test_counts(self):
-        for saying, told in ((("wrote", "ann", "bob", 1), 3), (("wrote", "ann", "bob", 2), 4), (("word", RED, "red"), 3),
+        for saying, told in ((("wrote", "ann", "bob", 1), 3), (("wrote", "ann", "bob", 2), 4),
+                             (("word", RED, "red"), 3),
                              (("one", RED, AGAIN), 4), (("read", "ann", "bob", 2), 6), (("read", "bob", "ann", 1), 6),
                              (("one", RED, ANSWER), 6), (("word", AGAIN, "wet"), 6), (("one", LAST, LAST), 7),
-                             (("read", "ann", "bob", 3), None), (("read", "ann", "bob", 4), None), (("word", OLD, "wet"), None),
+                             (("read", "ann", "bob", 3), None), (("read", "ann", "bob", 4), None),
+                             (("word", OLD, "wet"), None),
                              (("one", OLD, NEW), None), (("word", OLD, "old"), 3),
                              (("knows", "bob", ("wrote", "ann", "bob", 1)), 6),
                              (("both", ("wrote", "ann", "bob", 1), ("wrote", "ann", "bob", 3)), 5),
@@ -269,7 +286,8 @@ class Since(unittest.TestCase):
 
     def test_beginnings(self):
         hand, entries = self.VIEW
-        for saying in (("one", RED, AGAIN), ("word", AGAIN, "wet"), ("read", "ann", "bob", 1), ("wrote", "ann", "bob", 4)):
+        for saying in (("one", RED, AGAIN), ("word", AGAIN, "wet"), ("read", "ann", "bob", 1),
+                       ("wrote", "ann", "bob", 4)):
             told = since(HANDS, self.VIEW, saying)
             for many in range(len(entries) + 1):
                 self.assertIs(known(HANDS, (hand, entries[:many]), saying), many >= told)
@@ -277,7 +295,8 @@ class Since(unittest.TestCase):
 
 class Deepest(unittest.TestCase):
     def setUp(self):
-        rows = ["see ann 0 red", "write ann bob : 0 red", "read bob ann 1", "write bob ann", "read ann bob 1", "write ann bob",
+        rows = ["see ann 0 red", "write ann bob : 0 red", "read bob ann 1", "write bob ann", "read ann bob 1",
+                "write ann bob",
                 "read bob ann 2", "write bob ann"]
         self.view = view_of(of(*rows), "bob")
         self.saying = ("word", RED, "red")
@@ -312,14 +331,16 @@ class Deepest(unittest.TestCase):
         self.assertEqual(self.deepest("bob", "bob", "ann", "bob", "cy", saying=saying), 3)
 
     def test_as_known_of_knows(self):
-        for others in (("ann",), ("bob", "ann"), ("ann", "bob", "ann"), ("ann", "bob", "ann", "bob"), ("cy",), ("ann", "cy")):
+        for others in (("ann",), ("bob", "ann"), ("ann", "bob", "ann"), ("ann", "bob", "ann", "bob"), ("cy",),
+                       ("ann", "cy")):
             saying = self.saying
             for other in others[::-1]:
                 saying = ("knows", other, saying)
             self.assertIs(known(HANDS, self.view, saying), self.deepest(*others) == len(others))
 
     def test_no_such_tuple(self):
-        for bad in (None, 5, True, "ann", ["ann"], ("ann", "dan"), ("ann",) * 9, ("ann", None), (("ann",),), (["ann"],), (True,)):
+        for bad in (None, 5, True, "ann", ["ann"], ("ann", "dan"), ("ann",) * 9, ("ann", None), (("ann",),),
+                    (["ann"],), (True,)):
             with self.assertRaises(NoHand):
                 deepest(HANDS, self.view, self.saying, bad)
             with self.assertRaises(NoHand):

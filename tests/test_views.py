@@ -43,10 +43,12 @@ class Views(unittest.TestCase):
         self.assertEqual(view_of(of(*rows), "ann"), view_of(of(*more), "ann"))
 
     def test_no_things(self):
-        self.assertEqual(view_of(of("see ann 3 red", "see ann 3"), "ann"), view_of(of("see ann 5 red", "see ann 9"), "ann"))
+        self.assertEqual(view_of(of("see ann 3 red", "see ann 3"), "ann"),
+                         view_of(of("see ann 5 red", "see ann 9"), "ann"))
 
     def test_refusals(self):
-        for bad, wrong in ((5, ("history",)), ((("ann",), ()), ("hands",)), ((HANDS, (("see", "ann", 0),)), ("deed", 0)),
+        for bad, wrong in ((5, ("history",)), ((("ann",), ()), ("hands",)),
+                           ((HANDS, (("see", "ann", 0),)), ("deed", 0)),
                            ((HANDS, (("look", "ann", 0, ()),)), ("done", 0))):
             with self.assertRaises(NoHistory) as caught:
                 view_of(bad, "nobody")
@@ -88,7 +90,8 @@ class LeastHistories(unittest.TestCase):
                    ["write bob ann", "write bob ann", "see bob 0 red", "write bob ann : 0 red", "read ann bob 3"])
 
     def test_late_letters_are_written_as_they_will_be_read(self):
-        self.check(of("see bob 5 red", "see bob 6 old", "write bob ann : 0 red", "write bob ann", "write bob ann : 1 old",
+        self.check(of("see bob 5 red", "see bob 6 old", "write bob ann : 0 red", "write bob ann",
+                      "write bob ann : 1 old",
                       "read ann bob 3", "see ann 1", "read ann bob 1"), "ann",
                    ["see bob 2 red", "write bob ann : 0 red", "write bob ann", "see bob 0 old", "write bob ann : 1 old",
                     "read ann bob 3", "see ann 1", "read ann bob 1"])
@@ -111,10 +114,13 @@ class LeastHistories(unittest.TestCase):
                     "see cy 0 old", "write cy ann : 0 old", "read ann cy 1"])
 
     def test_third_hands_by_writer_then_reader(self):
-        history = of("write ann bob", "write ann cy", "write bob cy", "read bob ann 1", "read cy ann 1", "read cy bob 1",
-                     "write cy bob", "read bob cy 1", "write bob ann", "write cy ann", "read ann bob 1", "read ann cy 1")
+        history = of("write ann bob", "write ann cy", "write bob cy", "read bob ann 1", "read cy ann 1",
+                     "read cy bob 1",
+                     "write cy bob", "read bob cy 1", "write bob ann", "write cy ann", "read ann bob 1",
+                     "read ann cy 1")
         self.check(history, "ann", ["write bob cy", "write cy bob", "write ann bob", "write ann cy", "read bob ann 1",
-                                    "read bob cy 1", "write bob ann", "read ann bob 1", "read cy ann 1", "read cy bob 1",
+                                    "read bob cy 1", "write bob ann", "read ann bob 1", "read cy ann 1",
+                                    "read cy bob 1",
                                     "write cy ann", "read ann cy 1"])
 
     def test_descriptions_find_cards_to_be_one_and_look_at_words(self):
@@ -128,7 +134,8 @@ class LeastHistories(unittest.TestCase):
         # What is old is bob's card 1 alone; by his first letter it is one with card 0.
         begun = ["see ann 0 big red", "see ann 0 big old", "see ann 1 wet",
                  "write ann bob : 0 big red : 1 big old : 2 wet", "see ann 2 big", "write ann bob : 3 big"]
-        history = of(*begun, "read bob ann 1", "one bob 1 0", "write bob ann : 1", "read bob ann 2", "write bob ann : 0",
+        history = of(*begun, "read bob ann 1", "one bob 1 0", "write bob ann : 1", "read bob ann 2",
+                     "write bob ann : 0",
                      "read ann bob 1", "read ann bob 2")
         self.assertEqual([entry[4] for entry in view_of(history, "ann")[1][-2:]],
                          [((("big",), ()),), ((("old",), ()),)])
@@ -141,7 +148,8 @@ class LeastHistories(unittest.TestCase):
         self.check(history, "bob", ["see ann 0 red", "write ann bob : 0 red", "read bob ann 1"])
 
     def test_of_any_length(self):
-        rows = ["see ann 0 red", *["look ann 0 old"] * 300, "write ann bob : 0 red", "read bob ann 1", "write bob ann : 0",
+        rows = ["see ann 0 red", *["look ann 0 old"] * 300, "write ann bob : 0 red", "read bob ann 1",
+                "write bob ann : 0",
                 "read ann bob 1"]
         self.check(of(*rows), "ann", rows)
         told = least_history(HANDS, view_of(of(*rows), "ann"))
@@ -181,13 +189,15 @@ class Forms(unittest.TestCase):
         for bad in (None, 5, "see", (), ("see",), ["see", ()], ("saw", ()), ("see", (), ()), (5, ()), (None, ()),
                     (("see",), ()), (["see"], ()), ("look", ()), ("look", 0), ("look", 0, (), ()), ("one", 0),
                     ("one", 0, 0, 0), ("write", "bob"), ("write", "bob", (), ()), ("write", ()), ("read", "bob", 1),
-                    ("read", "bob", 1, ()), ("read", "bob", 1, (), (), ()), ("", 0, 0), (True, 0, 0), ("see", "ann", 0, ()),
+                    ("read", "bob", 1, ()), ("read", "bob", 1, (), (), ()), ("", 0, 0), (True, 0, 0),
+                    ("see", "ann", 0, ()),
                     ["look", 0, ()], ["read", "bob", 1, (), ()], ("reads", "bob", 1, (), ()), (0, "bob", 1, (), ())):
             self.assertEqual(wrong(bad), ("view",), bad)
             self.assertEqual(wrong(("see", ()), bad), ("view",), bad)
 
     def test_words(self):
-        for bad in (None, 5, "red", ["red"], ("red", "old"), ("red", "red"), ("Red",), ("",), (5,), (None,), (("red",),),
+        for bad in (None, 5, "red", ["red"], ("red", "old"), ("red", "red"), ("Red",), ("",), (5,), (None,),
+                    (("red",),),
                     ("toolongaa",), True):
             for entry in (("see", bad), ("look", 0, bad), ("write", "bob", ((0, bad),)),
                           ("read", "bob", 1, (), ((None, bad),))):
@@ -317,7 +327,8 @@ class Entries(unittest.TestCase):
         sees = (("see", ("red",)), ("see", ("wet",)), both)
         for lines, good in ((((("red",), ()), (("wet",), ())), True), (((("red",), ()), (("red",), ())), False),
                             ((((), ()),), True), ((((), ()), (("red",), ())), False), ((((), ()), (None, ())), True)):
-            self.assertEqual(wrong(*sees, ("read", "bob", 1, (("ann", 1),), lines)), None if good else ("entry", 3), lines)
+            self.assertEqual(wrong(*sees, ("read", "bob", 1, (("ann", 1),), lines)), None if good else ("entry", 3),
+                             lines)
 
     def test_a_letter_of_a_lesser_number_by_which_one_read_ahead_had_a_lesser_name(self):
         sees = (("see", ("red",)), ("see", ("wet",)), ("write", "bob", ((0, ("red",)), (1, ("wet",)))))
@@ -325,14 +336,17 @@ class Entries(unittest.TestCase):
         ahead = ("read", "bob", 2, names, ((("red",), ()),))
         for lines, good in ((((("red",), ()),), True), (((("wet",), ()),), True), ((((), ()),), False), ((), True),
                             (((None, ()),), True)):
-            self.assertEqual(wrong(*sees, ahead, ("read", "bob", 1, names, lines)), None if good else ("entry", 4), lines)
+            self.assertEqual(wrong(*sees, ahead, ("read", "bob", 1, names, lines)), None if good else ("entry", 4),
+                             lines)
         both = ("read", "bob", 2, names, ((("red",), ()), (("wet",), ())))
         self.assertEqual(wrong(*sees, both, ("read", "bob", 1, names, (((), ()),))), ("entry", 4))
         self.assertEqual(wrong(*sees, ("read", "bob", 1, names, (((), ()),)), both), ("entry", 4))
 
     def test_a_beginning_is_a_view(self):
-        history = of("see ann 0 red", "write ann bob : 0 red", "read bob ann 1", "see bob 1 old", "write bob ann : 0 : 1 old",
-                     "write bob cy : 0", "write bob ann : 1", "read ann bob 2", "read ann bob 1", "write ann bob : 1 : 2")
+        history = of("see ann 0 red", "write ann bob : 0 red", "read bob ann 1", "see bob 1 old",
+                     "write bob ann : 0 : 1 old",
+                     "write bob cy : 0", "write bob ann : 1", "read ann bob 2", "read ann bob 1",
+                     "write ann bob : 1 : 2")
         for hand in HANDS:
             entries = view_of(history, hand)[1]
             for many in range(len(entries) + 1):
@@ -411,7 +425,8 @@ class Parted(unittest.TestCase):
             with self.assertRaises(NoHands):
                 parted(hands, 5, 5)
         for one, other, told in ((5, bad, ("view",)), (bad, 5, ("entry", 0)), (self.ONE, 5, ("view",)),
-                                 (self.ONE, ("ann", (SEE, ("look", 1, ()))), ("entry", 1)), (("bob", ()), bad, ("entry", 0))):
+                                 (self.ONE, ("ann", (SEE, ("look", 1, ()))), ("entry", 1)),
+                                 (("bob", ()), bad, ("entry", 0))):
             with self.assertRaises(NoView) as caught:
                 parted(HANDS, one, other)
             self.assertEqual(caught.exception.wrong, told)
