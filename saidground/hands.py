@@ -15,7 +15,7 @@ class Hand:
             raise NoHands()
         if name not in hands:
             raise NoHand()
-        self.name = name
+        self.hand = name
         self.hands = hands
         self.lots = Lots()
         self.keepings = {other: Keeping(name, other) for other in hands if other != name}
@@ -54,9 +54,9 @@ class Hand:
         names = self.names()
         sheet = keeping.next_sheet(names, tuple([line[0] for line in told]), file)
         keeping.written += 1
-        keeping.keep((self.name, keeping.written), sheet, [words for card, words in lines])
+        keeping.keep((self.hand, keeping.written), sheet, [words for card, words in lines])
         keeping.give_cards(sheet, [card for card, words in lines])
-        return self.name, to, keeping.written, names, told
+        return self.hand, to, keeping.written, names, told
 
     def read(self, letter):
         """The cards for a letter's lines, each the least of its lot; None of a letter that was read ahead."""
@@ -99,7 +99,7 @@ class Hand:
 
     def copy(self):
         """Another Hand that stands as this one."""
-        twin = Hand(self.name, self.hands)
+        twin = Hand(self.hand, self.hands)
         twin.lots = self.lots.copy()
         twin.keepings = {other: self.keepings[other].copy() for other in self.keepings}
         return twin
@@ -111,7 +111,7 @@ class Hand:
 
     def keeping(self, other):
         """What is kept of the letters to and from another hand."""
-        if other not in self.hands or other == self.name:
+        if other not in self.hands or other == self.hand:
             raise NoHand()
         return self.keepings[other]
 
@@ -121,7 +121,7 @@ class Hand:
 
     def names(self):
         """The names that the next letter has: all letters that were read."""
-        read = [(other, number) for other in self.hands if other != self.name
+        read = [(other, number) for other in self.hands if other != self.hand
                 for number in self.keepings[other].read_numbers()]
         return tuple(read)
 
@@ -130,7 +130,7 @@ class Hand:
         if not is_letter(letter):
             return False
         writer, reader, number, names, lines = letter
-        if reader != self.name or writer not in self.hands:
+        if reader != self.hand or writer not in self.hands:
             return False
         return is_number(number) and are_names_of(names, self.hands)
 

@@ -347,6 +347,19 @@ class Kept(unittest.TestCase):
         hand.read(("bob", "ann", 2, (("ann", 1),), (((), ("wet",)),)))
         self.assertEqual(hand.ground("bob"), [(("old",), 1), (("red", "wet"), 0)])
 
+    def test_no_more_than_lots_is_kept_of_what_was_laid_together(self):
+        ann, bob = Hand("ann", HANDS), Hand("bob", HANDS)
+        for word in ("big", "old", "red"):
+            ann.see((word,))
+        lines = ((0, ("big",)), (1, ("old",)), (2, ("red",)))
+        for _ in range(20):
+            bob.read(ann.write("bob", lines))
+            ann.read(bob.write("ann", lines))
+            for keeping in (ann.keepings["bob"], bob.keepings["ann"]):
+                self.assertLessEqual(len(keeping.sheets), 2)
+                self.assertLessEqual(max(len(keeping.said), len(keeping.cards)), 9)
+                self.assertEqual(sorted(keeping.said), sorted(keeping.cards))
+
     def test_each_history_by_its_letters(self):
         for seed in range(40):
             slow = by_chance(seed, 60)
