@@ -37,3 +37,13 @@ def least_safe(faces, others):
             if any([mask & face == mask for face in wanted]) and all([mask & other != mask for other in barred]):
                 return some
     return None
+
+
+def name_in(lots, held):
+    """The least description that is safe for what is held as one thing, None where there is none.
+
+    Of each lot it is told as which thing it is held, and its words.
+    """
+    faces = [words for lot, words in lots if lot == held]
+    others = [words for lot, words in lots if lot != held]
+    return least_safe(faces, others)

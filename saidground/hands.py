@@ -1,9 +1,9 @@
 """Hands by themselves: each keeps its own cards and letters alone."""
 
-from saidground.descriptions import fitting
+from saidground.descriptions import fitting, name_in
 from saidground.errors import NoCard, NoHand, NoHands, NoLetter, NoLines, NoWords
 from saidground.forms import are_hands, are_lines, are_names_of, is_letter, is_number, is_whole, is_words
-from saidground.keeping import Keeping, name_in
+from saidground.keeping import Keeping
 from saidground.lots import Lots
 
 

@@ -1,6 +1,6 @@
 """What one hand holds: its cards in lots, its cards for slots, the letters that it read."""
 
-from saidground.descriptions import least_safe
+from saidground.descriptions import name_in
 from saidground.lots import Lots
 
 
@@ -27,27 +27,21 @@ class Holding:
         """The public file of that ground."""
         return self.talks.public_file(self.ground(other))
 
-    def is_other(self, slots, card):
-        """Whether one of its cards for these slots isn't in the card's lot."""
-        head = self.lots.head(card)
-        return any([self.lots.head(self.cards[slot]) != head for slot in slots])
+    def held_as(self, lots):
+        """As which of its lots, by their least cards, it holds those of a ground's file, each with its words."""
+        # A lot there is one for both hands, so its first slot tells it.
+        return [(self.lots.head(self.cards[slots[0]]), words) for slots, words in lots]
 
     def name(self, lots, card):
         """The least description that is safe for the card in these lots, None where there is none."""
-        faces = []
-        others = []
-        for slots, words in lots:
-            if self.is_other(slots, card):
-                others.append(words)
-            else:
-                faces.append(words)
-        return least_safe(faces, others)
+        return name_in(self.held_as(lots), self.lots.head(card))
 
     def write(self, other, lines):
         """Write the next letter to the other, and put it into the talks."""
         lots = self.ground_file(other)
         number = self.written(other) + 1
-        told = tuple([(self.name(lots, card), words) for card, words in lines])
+        held = self.held_as(lots)
+        told = tuple([(name_in(held, self.lots.head(card)), words) for card, words in lines])
         letter = (self.hand, other, number, tuple(sorted(self.names)), told)
         self.talks.put(letter, lots)
         self.counts[other] = number

@@ -1,6 +1,6 @@
 """What a hand keeps of its letters to and from another one."""
 
-from saidground.descriptions import fitting, least_safe
+from saidground.descriptions import fitting, name_in
 from saidground.lots import lots_of
 from saidground.talks import names_can_stand
 
@@ -172,10 +172,3 @@ class Keeping:
             del self.sheets[key]
         self.laid = laid
         self.sheets = {key: self.sheets[key].moved(moved) for key in self.sheets}
-
-
-def name_in(lots, held):
-    """The least description that is safe for what is held as one; of each lot as what it is held, and its words."""
-    faces = [words for lot, words in lots if lot == held]
-    others = [words for lot, words in lots if lot != held]
-    return least_safe(faces, others)

@@ -97,8 +97,9 @@ def unsafe_in(held, lots, card, words):
     found = fitting(lots, words)
     if not found:
         return ("nothing",)
+    heads = [lot[0] for lot in held.held_as(lots)]
     for number in found:
-        if held.is_other(lots[number][0], card):
+        if heads[number] != held.lots.head(card):
             return ("other", number)
     return None
 

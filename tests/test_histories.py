@@ -36,7 +36,8 @@ class Forms(unittest.TestCase):
         for deed in (None, True, 0, "see", (), [], ("see",), ("see", "ann", 0), ("see", "ann", 0, (), ()),
                      ["see", "ann", 0, ()], ("saw", "ann", 0, ()), (None, "ann", 0, ()), ("SEE", "ann", 0, ()),
                      ("one", "ann", 0), ("write", "ann", "bob"), ("read", "ann", "bob"), (("see",), "ann", 0, ()),
-                     ("", "ann", 0, ()), (["see"], "ann", 0, ())):
+                     ("", "ann", 0, ()), (["see"], "ann", 0, ()), ("reads", "ann", "bob", 1),
+                     (None, "ann", "bob", 1), ("writes", "ann", "bob", ())):
             self.assertEqual(wrong(deed), ("deed", 0), deed)
 
     def test_hands_of_deeds(self):
