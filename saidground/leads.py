@@ -4,8 +4,8 @@ from saidground.descriptions import covers
 from saidground.forms import is_row, is_whole
 
 
-def new_slots(world, hand, other):
-    """The slots, by which another hand has new cards in a least history of the hand's view."""
+def new_slots(world, other):
+    """The slots of the new lines that a hand wrote or read."""
     letters = world.talks.letters
     return [slot for slot in world.held[other].cards if letters[slot[:3]][4][slot[3]][0] is None]
 
@@ -19,7 +19,7 @@ def lead_of(world, least, hand):
             here = least.held[other].cards
             there = world.held[other].cards
             # All cards of others come by new lines, of their own or read: each has the card that it has there.
-            cards.extend([(other, here[slot], there[slot]) for slot in new_slots(least, hand, other)])
+            cards.extend([(other, here[slot], there[slot]) for slot in new_slots(least, other)])
     return tuple([images[thing] for thing in range(len(images))]), tuple(sorted(cards))
 
 
