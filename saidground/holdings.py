@@ -15,6 +15,15 @@ class Holding:
         self.names = {}
         self.counts = {}
 
+    def among(self, talks):
+        """The same, to go on by itself among a copy of its talks."""
+        twin = Holding(self.hand, talks)
+        twin.lots = self.lots.copy()
+        twin.cards = {slot: self.cards[slot] for slot in self.cards}
+        twin.names = {name: True for name in self.names}
+        twin.counts = dict(self.counts)
+        return twin
+
     def written(self, other):
         """How many letters it wrote to the other."""
         return self.counts.get(other, 0)

@@ -64,8 +64,7 @@ def letter(history, writer, reader, number):
 
 def unread(history):
     """The letters that their readers haven't read, as they were written."""
-    world = world_of(history)
-    return [key for key in world.talks.letters if (key[0], key[2]) not in world.held[key[1]].names]
+    return world_of(history).unread()
 
 
 def ground(history, hand, other):

@@ -75,13 +75,21 @@ def paper_wrong(hands, view, saying, thing):
     return showing_wrong(standing, saying, thing[1], ())
 
 
-def no_wrong(hands, view, saying, history):
-    """None where a history shows that a saying isn't known, else the first that is wrong with it."""
-    wrong, world = judged(history)
+def judged_beside(hands, view, thing):
+    """Of anything (None, its world) where it is a history of these hands with this view, else (what is wrong, None)."""
+    wrong, world = judged(thing)
     if wrong is not None or world.hands != hands:
-        return ("history",)
+        return ("history",), None
     if world.view(view[0]) != view:
-        return ("view",)
+        return ("view",), None
+    return None, world
+
+
+def no_wrong(hands, view, saying, thing):
+    """None where anything is a history that shows that a saying isn't known, else the first that is wrong with it."""
+    wrong, world = judged_beside(hands, view, thing)
+    if wrong is not None:
+        return wrong
     return ("holds",) if Standing(world).holds(saying) else None
 
 

@@ -35,17 +35,32 @@ class Talks:
         self.letters = {}
         self.meant = {}
 
+    def copy(self):
+        """The same letters, to go on by themselves."""
+        twin = Talks()
+        twin.letters = {key: self.letters[key] for key in self.letters}
+        twin.meant = {slot: self.meant[slot] for slot in self.meant}
+        return twin
+
     def ground(self, writer, reader, names):
         """The keys, rising, of the ground's letters of a letter with these names."""
         yours = [(reader, writer, number) for hand, number in names if hand == reader]
         mine = [(writer, reader, number) for key in yours for hand, number in self.letters[key][3] if hand == writer]
         return sorted(set(yours + mine))
 
-    def public_file(self, keys):
-        """The public file of letters that are here, by their keys, rising, with their grounds."""
-        slots = [(*key, k) for key in keys for k in range(len(self.letters[key][4]))]
+    def slots(self, keys):
+        """The slots of letters that are here, by their keys: rising where these are."""
+        return [(*key, k) for key in keys for k in range(len(self.letters[key][4]))]
+
+    def public_file(self, keys, more=()):
+        """The public file of letters that are here, by their keys, rising, with their grounds.
+
+        Slots that stand together in one of the rows of more are one, too.
+        """
+        slots = self.slots(keys)
         words = [self.letters[slot[:3]][4][slot[3]][1] for slot in slots]
-        return lots_of(slots, words, [(slot, *self.meant[slot]) for slot in slots if slot in self.meant])
+        meant = [(slot, *self.meant[slot]) for slot in slots if slot in self.meant]
+        return lots_of(slots, words, meant + list(more))
 
     def hold(self, letter):
         """Take in a letter; what its descriptions mean is to be found yet."""

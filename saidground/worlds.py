@@ -17,6 +17,16 @@ class World:
         self.things = {hand: [] for hand in hands}
         self.true = {}
 
+    def copy(self):
+        """The same, to go on by itself."""
+        twin = World(self.hands)
+        twin.deeds = list(self.deeds)
+        twin.talks = self.talks.copy()
+        twin.held = {hand: self.held[hand].among(twin.talks) for hand in self.hands}
+        twin.things = {hand: list(self.things[hand]) for hand in self.hands}
+        twin.true = {thing: dict(self.true[thing]) for thing in self.true}
+        return twin
+
     def history(self):
         """The history of the deeds done."""
         return self.hands, tuple(self.deeds)
@@ -39,6 +49,10 @@ class World:
         """The thing of the card that the writer of a line meant, None where there is no such line."""
         card = self.held[slot[0]].cards.get(slot)
         return None if card is None else self.things[slot[0]][card]
+
+    def unread(self):
+        """The keys of the letters that their readers haven't read, as they were written."""
+        return [key for key in self.talks.letters if (key[0], key[2]) not in self.held[key[1]].names]
 
     def can(self, deed):
         """Whether what is of a deed's form can be done now."""

@@ -262,6 +262,119 @@ class Least(Slow):
         return cards[0]
 
 
+class Together(Slow):
+    """The least history of several views as point 70 tells it; wrong is None, or the entry that point 71 tells."""
+
+    must = Alone.must
+
+    def __init__(self, hands, views):
+        super().__init__(hands)
+        self.views = dict(views)
+        self.alone = {view[0]: Alone(hands, view) for view in views}
+        self.numbers = self.joint_things()
+        self.letters = {(entry[1], hand, entry[2]): entry[3:] for hand, entries in views for entry in entries
+                        if entry[0] == "read" and entry[1] not in self.views}
+        self.make_outer()
+        self.at = {hand: 0 for hand in self.views}
+        self.ahead = []
+        self.wrong = self.go()
+
+    def joint_things(self):
+        """The number of each card's thing: lots of all cards, joined till nothing more is."""
+        lots = [({(hand, card) for card in cards}, set()) for hand in self.views
+                for cards, _ in self.alone[hand].lots[hand]]
+        for hand in self.views:
+            for slot, card in self.alone[hand].card_for[hand].items():
+                other = self.alone[slot[0]].card_for[slot[0]].get(slot) if slot[0] in self.views else None
+                if other is not None:
+                    lots = joined(lots, {(hand, card), (slot[0], other)})
+        order = sorted(min(cards) for cards, _ in lots)
+        return {card: order.index(min(cards)) for cards, _ in lots for card in cards}
+
+    def make_outer(self):
+        outer = [hand for hand in self.hands if hand not in self.views]
+        for writer in outer:
+            for reader in outer:
+                numbers = [number for key, (names, _) in self.letters.items() if key[0] == reader
+                           for name, number in names if name == writer]
+                for _ in range(max(numbers, default=0)):
+                    self.must(("write", writer, reader, ()))
+
+    def go(self):
+        """Do one entry after the other; the first that is wrong, None where all were done."""
+        while any(self.at[hand] < len(self.views[hand]) for hand in self.views):
+            free = [hand for hand in self.views if self.is_free(hand)]
+            if not free:
+                hand = next(hand for hand in self.views if self.at[hand] < len(self.views[hand]))
+                return "entry", hand, self.at[hand]
+            hand, entry = free[0], self.views[free[0]][self.at[free[0]]]
+            if entry[0] == "read":
+                key = (entry[1], hand, entry[2])
+                if key not in self.told:
+                    self.make_all(key)
+                if self.told[key][3:] != entry[3:]:
+                    return "entry", hand, self.at[hand]
+                self.do(("read", hand, *entry[1:3]))
+            elif entry[0] == "see":
+                self.do(("see", hand, self.numbers[hand, len(self.things[hand])], entry[1]))
+            else:
+                assert self.can((entry[0], hand, *entry[1:]))
+                self.do((entry[0], hand, *entry[1:]))
+            self.at[hand] += 1
+        return None
+
+    def is_free(self, hand):
+        if self.at[hand] == len(self.views[hand]):
+            return False
+        entry = self.views[hand][self.at[hand]]
+        if entry[0] != "read":
+            return True
+        waits_for = [(entry[1], hand, entry[2])]
+        if entry[1] not in self.views:
+            waits_for = [(writer, entry[1], number) for writer, number in entry[3]]
+        return all(key in self.told for key in waits_for)
+
+    def make_all(self, key):
+        """Make the letters that are written ahead of a reading, and the one that is read."""
+        names = set(self.letters[key][0])
+        late = [other for other in self.letters if other[0] == key[0] and other not in self.told]
+        now = [other for other in late if set(self.letters[other][0]) < names
+               or other[1] == key[1] and other[2] <= key[2]]
+        for writer, reader, number in sorted(now, key=lambda other: (len(self.letters[other][0]), *other[1:])):
+            for lesser in range(1, number):
+                if (writer, reader, lesser) not in self.told:
+                    assert (writer, reader, lesser) not in self.letters
+                    self.must(("write", writer, reader, ()))
+            self.make(writer, reader, number)
+            if self.told[writer, reader, number][3:] != self.letters[writer, reader, number]:
+                self.ahead += [(writer, reader, number)] * ((writer, reader, number) != key)
+
+    def make(self, writer, reader, number):
+        names, lines = self.letters[writer, reader, number]
+        for name in names:
+            if name not in self.read[writer]:
+                self.must(("read", writer, *name))
+        file = public_file(self.told, ground_of(self.told, writer, reader, names), self.kept)
+        cards = [self.make_line((writer, reader, number, k), line, file) for k, line in enumerate(lines)]
+        deed = ("write", writer, reader, tuple(zip(cards, [words for _, words in lines])))
+        self.do(deed if self.can(deed) else (*deed[:3], ()))
+
+    def make_line(self, slot, line, file):
+        writer, reader = slot[:2]
+        if line[0] is None:
+            card = self.alone[reader].card_for[reader][slot]
+            self.must(("see", writer, self.numbers[reader, card], line[1]))
+            return len(self.things[writer]) - 1
+        cards = sorted({self.card_for[writer][meant] for slots in self.fit(file, line[0]) for meant in slots})
+        for other in cards:
+            if other not in self.lot(writer, cards[0])[0]:
+                self.must(("one", writer, cards[0], other))
+        more = tuple(word for word in line[1] if word not in self.lot(writer, cards[0])[1])
+        if more:
+            self.must(("look", writer, cards[0], more))
+        return cards[0]
+
+
 def slow_wrong(hands, view):
     """view_wrong's answer of what is of a view's form, by trying all beginnings."""
     hand, entries = view
@@ -338,10 +451,10 @@ def some_deed(chance, slow, things):
     return kind, hand, other, some_number(chance, slow, other, hand)
 
 
-def by_chance(seed, many=40):
+def by_chance(seed, many=40, hands=None):
     """A Slow with a history of so many deeds, the same for the same seed."""
     chance = Random(seed)
-    slow = Slow(("ann", "bob", "cy", "dan", "eve")[:chance.choice((2, 2, 2, 2, 2, 3, 3, 4, 5))])
+    slow = Slow(hands or ("ann", "bob", "cy", "dan", "eve")[:chance.choice((2, 2, 2, 2, 2, 3, 3, 4, 5))])
     words = WORDS[:chance.choice((3, 4, 5, 5, 5))]
     things = [some_words(chance, words, 4) for _ in range(chance.randint(2, 6))]
     while len(slow.deeds) < many:
@@ -391,6 +504,18 @@ def bent(chance, slow, view):
             if kind == "elsewhere":
                 entries.insert(chance.randint(0, len(entries)), moved)
     return hand, tuple(entries)
+
+
+def bent_names(chance, slow, view, inner):
+    """A view in which the names of one letter of an outer hand tell of one letter more or less."""
+    hand, entries = view
+    read = [entry for entry in entries if entry[0] == "read" and entry[1] not in inner and entry[3]]
+    if not read:
+        return view
+    bent = chance.choice(read)
+    names = {*bent[3]} ^ {chance.choice(sorted({*bent[3], (chance.choice(slow.hands), chance.randint(1, 4))}))}
+    other = (*bent[:3], tuple(sorted(names)), bent[4])
+    return hand, tuple(other if entry == bent else entry for entry in entries)
 
 
 def bent_letter(chance, slow, entry):

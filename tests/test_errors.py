@@ -22,6 +22,14 @@ class Errors(unittest.TestCase):
             with self.assertRaises(errors.SaidError):
                 raise getattr(errors, name)()
 
+    def test_each_is_one_of_its_own_class_alone(self):
+        for name in (*WITHOUT_FIELDS, *FIELDS):
+            error = getattr(errors, name)()
+            self.assertIsInstance(error, errors.SaidError)
+            self.assertIsInstance(error, ValueError)
+            others = [other for other in (*WITHOUT_FIELDS, *FIELDS) if isinstance(error, getattr(errors, other))]
+            self.assertEqual(others, [name])
+
     def test_fields_by_places_by_names_and_left_out(self):
         for name, field in FIELDS.items():
             made = getattr(errors, name)

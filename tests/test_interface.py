@@ -1,12 +1,16 @@
-"""Points 2 and 6 of views, sayings, papers and hands: the interface's names, and that all that is told is new."""
+"""Points 2 and 6 of views and all behind them: the interface's names, and that all that is told is new."""
 
 import copy
 import inspect
 import unittest
 
+import saidground.faces
+import saidground.given
 import saidground.hands
 import saidground.papers
+import saidground.posts
 import saidground.sayings
+import saidground.sides
 import saidground.views
 from saidground.errors import NoHands
 from saidground.histories import read_history
@@ -20,18 +24,34 @@ INTERFACE = {
     saidground.sayings: {
         "holds": ["history", "saying"], "known": ["hands", "view", "saying"], "since": ["hands", "view", "saying"],
         "deepest": ["hands", "view", "saying", "others"]},
-    saidground.papers: {"paper_of": ["hands", "view", "saying"], "paper_wrong": ["hands", "view", "saying", "thing"]}}
-METHODS = {"see": ["words"], "look": ["card", "words"], "one": ["card", "other"], "write": ["to", "lines"],
-           "read": ["letter"],
-           "file": [], "ground": ["other"], "kept": ["other"], "copy": []}
+    saidground.papers: {"paper_of": ["hands", "view", "saying"], "paper_wrong": ["hands", "view", "saying", "thing"]},
+    saidground.faces: {
+        "faces": ["hands", "view", "other"], "called": ["hands", "view", "other", "card"],
+        "hidden": ["hands", "view", "other", "card"]},
+    saidground.given: {
+        "unheld": ["hands", "view", "entry", "slots"], "unheld_paper": ["hands", "view", "entry", "slots"],
+        "unheld_wrong": ["hands", "view", "entry", "slots", "thing"]},
+    saidground.sides: {
+        "together": ["hands", "views"], "together_wrong": ["hands", "thing"],
+        "known_together": ["hands", "views", "saying"]}}
+HAND = {"see": ["words"], "look": ["card", "words"], "one": ["card", "other"], "write": ["to", "lines"],
+        "read": ["letter"], "file": [], "ground": ["other"], "kept": ["other"], "copy": []}
+POST = {"see": ["hand", "thing", "words"], "look": ["hand", "card", "words"], "one": ["hand", "card", "other"],
+        "write": ["hand", "to", "lines"], "read": ["hand", "writer", "number"], "back": [], "history": [],
+        "on_way": ["hand"], "copy": [], "__eq__": ["other"], "__len__": []}
 
 HANDS = ("ann", "bob")
 HISTORY = read_history(["hands ann bob", "see ann 0 red", "write ann bob : 0 red", "read bob ann 1",
                         "write bob ann : 0",
                         "read ann bob 1"])
 VIEW = view_of(HISTORY, "ann")
+VIEWS = (VIEW, view_of(HISTORY, "bob"))
+SLOTS = (("ann", "bob", 1, 0), ("bob", "ann", 1, 0))
 SAYING = ("one", ("ann", "bob", 1, 0), ("bob", "ann", 1, 0))
 UNKNOWN = ("read", "bob", "ann", 9)
+# Two things told alike: neither can be named.
+COVERED = view_of(read_history(["hands ann bob", "see ann 0 red", "see ann 1 red", "write ann bob : 0 red : 1 red",
+                                "read bob ann 1", "write bob ann", "read ann bob 1"]), "ann")
 CALLS = (("view_of", (HISTORY, "bob")), ("least_history", (HANDS, VIEW)), ("view_wrong", (HANDS, ["ann", []])),
          ("view_wrong", (HANDS, ("ann", [("see", ["red"])]))), ("parted", (HANDS, VIEW, ("ann", ()))),
          ("leading", (HISTORY, "ann")),
@@ -40,7 +60,13 @@ CALLS = (("view_of", (HISTORY, "bob")), ("least_history", (HANDS, VIEW)), ("view
          ("since", (HANDS, VIEW, SAYING)), ("deepest", (HANDS, VIEW, SAYING, ("bob", "ann"))),
          ("paper_of", (HANDS, VIEW, SAYING)),
          ("paper_of", (HANDS, VIEW, UNKNOWN)), ("paper_wrong", (HANDS, VIEW, SAYING, ("yes", ("joins", [[]])))),
-         ("paper_wrong", (HANDS, VIEW, UNKNOWN, ("no", [["ann", "bob"], []]))))
+         ("paper_wrong", (HANDS, VIEW, UNKNOWN, ("no", [["ann", "bob"], []]))),
+         ("faces", (HANDS, VIEW, "bob")), ("called", (HANDS, VIEW, "bob", 0)), ("hidden", (HANDS, COVERED, "bob", 0)),
+         ("unheld", (HANDS, VIEW, 2, SLOTS)), ("unheld_paper", (HANDS, VIEW, 2, SLOTS)),
+         ("unheld_wrong", (HANDS, VIEW, 2, SLOTS, ("no", [["ann", "bob"], []]))),
+         ("unheld_wrong", (HANDS, VIEW, 2, SLOTS, ["yes", [[]]])), ("together", (HANDS, VIEWS)),
+         ("together_wrong", (HANDS, [["ann", []]])), ("together_wrong", (HANDS, (VIEW, ["bob", []]))),
+         ("known_together", (HANDS, VIEWS, SAYING)))
 
 
 def function(name):
@@ -54,12 +80,13 @@ class Interface(unittest.TestCase):
                 self.assertEqual(function(name).__module__, module.__name__)
                 self.assertEqual(list(inspect.signature(function(name)).parameters), arguments, name)
 
-    def test_hands(self):
-        made = saidground.hands.Hand
-        self.assertEqual(made.__module__, "saidground.hands")
-        self.assertEqual(list(inspect.signature(made).parameters), ["name", "hands"])
-        for name, arguments in METHODS.items():
-            self.assertEqual(list(inspect.signature(vars(made)[name]).parameters), ["self", *arguments], name)
+    def test_hands_and_posts(self):
+        for made, arguments, methods in ((saidground.hands.Hand, ["name", "hands"], HAND),
+                                         (saidground.posts.Post, ["hands"], POST)):
+            self.assertIn(made.__module__, ("saidground.hands", "saidground.posts"))
+            self.assertEqual(list(inspect.signature(made).parameters), arguments)
+            for name, more in methods.items():
+                self.assertEqual(list(inspect.signature(vars(made)[name]).parameters), ["self", *more], name)
 
 
 class Told(unittest.TestCase):
@@ -68,6 +95,8 @@ class Told(unittest.TestCase):
             before = copy.deepcopy(arguments)
             told = function(name)(*arguments)
             kept = copy.deepcopy(told)
+            if isinstance(told, list):
+                told.clear()
             self.assertEqual(function(name)(*arguments), kept, name)
             self.assertEqual(arguments, before, name)
 
@@ -79,8 +108,13 @@ class Told(unittest.TestCase):
     def test_kinds(self):
         for name, arguments in CALLS:
             told = function(name)(*arguments)
-            if name in ("holds", "known"):
+            if name in ("holds", "known", "known_together"):
                 self.assertIs(told, True)
+            elif name == "unheld":
+                self.assertIs(told, False)
+            elif name in ("faces", "hidden"):
+                self.assertIs(type(told), list)
+                self.assertTrue(told and all(type(row) is tuple for row in told))
             elif name in ("since", "deepest", "parted"):
                 self.assertIs(type(told), int)
             else:
@@ -93,6 +127,24 @@ class Told(unittest.TestCase):
             told = function(name)(HISTORY, "ann") if name == "leading" else function(name)(HANDS, VIEW, SAYING)
             self.assertIsNone(function("leading_wrong")(HISTORY, "ann", told) if name == "leading" else
                               function("paper_wrong")(HANDS, VIEW, SAYING, told))
+        told = function("together")(HANDS, VIEWS)
+        self.assertEqual(tuple(view_of(told, hand) for hand in HANDS), VIEWS)
+        told = function("unheld_paper")(HANDS, VIEW, 2, SLOTS)
+        self.assertIsNone(function("unheld_wrong")(HANDS, VIEW, 2, SLOTS, told))
+
+    def test_of_any_length_again(self):
+        # Three hands' letters up to 60 make a least history of over 200 deeds.
+        hands = ("ann", "bob", "cy")
+        names = tuple(("cy", number) for number in range(1, 61))
+        view = ("ann", tuple(("read", "bob", number, names, ()) for number in range(60, 0, -1)))
+        told = function("together")(hands, (view,))
+        self.assertEqual(len(told[1]), 4 * 60)
+        self.assertEqual(told, function("least_history")(hands, view))
+        views = tuple(view_of(told, hand) for hand in hands)
+        self.assertEqual([len(some[1]) for some in views], [60, 120, 60])
+        again = function("together")(hands, views)
+        self.assertEqual(tuple(view_of(again, hand) for hand in hands), views)
+        self.assertIs(function("known_together")(hands, views, ("read", "cy", "bob", 60)), True)
 
     def test_what_is_done_behind_a_call_changes_nothing(self):
         lines = ((0, ("red",)),)
@@ -109,7 +161,7 @@ class Hands(unittest.TestCase):
     def test_no_hands_ahead_of_all_else(self):
         calls = [(name, ["none"] * (len(arguments) - 1)) for functions in INTERFACE.values()
                  for name, arguments in functions.items() if arguments[0] == "hands"]
-        self.assertEqual(len(calls), 8)
+        self.assertEqual(len(calls), 17)
         for name, rest in calls:
             for bad in (None, True, 5, "ann", (), ("ann",), ["ann", "bob"], ("bob", "ann"), ("ann", "ann"), ("ann", 5),
                         ("ann", "Bob"),
