@@ -92,9 +92,9 @@ class Giving:
         if line >= len(lines) or (is_whole(other) and not line < other < len(lines)):
             return ("line",)
         held = self.held_as(number)
-        lot = held[(*key, line)]
+        lot = held[key + (line,)]
         if is_whole(other):
-            return None if held[(*key, other)] == lot else ("lines",)
+            return None if held[key + (other,)] == lot else ("lines",)
         name = lines[line][0]
         if name is not None and (len(other), other) >= (len(name), name):
             return ("less",)
